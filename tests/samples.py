@@ -1,0 +1,101 @@
+"""Works and things that the tests share, and what DOC.md says of them told again in the plainest way."""
+
+from itertools import combinations, product
+
+# The greatest NUMBER of sixty figures.
+BIG = 10 ** 60 - 1
+
+COPYING = ((), 1, 2)
+AGREEING = (2, 0, 1)
+BOUNDS = (3, 2, 1, 6)
+SPRING = (1, 2)
+FOE = (1, 3)
+
+# Things of many sorts, none of them a tuple that any form of the document has.
+ODD = [
+    True, False, None, 0, 1, -1, 2, BIG, -BIG, "", "a", "tool", "leaf", "stuff", "make", "1", "a b\nc",
+    (), (1,), (True,), (None,), ("a",), ((),), ((), (), ()), ([],), [], [1], ["a"], [()], [["tool", "a"]],
+    ("x", "a"), ("a", "tool"), (True, "a"), (1, 2), (None, None), ("stuff", "stuff"), (("stuff",),),
+    (((((((((("a",),),),),),),),),),), [[[[[[[[[[1]]]]]]]]]],
+]
+
+
+def kind(name, *words, takes=1, beats=1, gives=1, back=0):
+    """A KIND that asks one of each of these words."""
+    return (name, tuple((word, 1) for word in sorted(words)), takes, beats, gives, back)
+
+
+def works(*kinds, asks=()):
+    """A WORKS of these KINDS, whose COPYING asks one of each of these words."""
+    copying = (tuple((word, 1) for word in sorted(asks)), 1, 2)
+    return (tuple(sorted(kinds)), copying, AGREEING, BOUNDS, SPRING, FOE, 2)
+
+
+def changed(thing, at, other):
+    """The tuple with another thing at this place."""
+    return thing[:at] + (other,) + thing[at + 1:]
+
+
+def subsets(things):
+    """All tuples of these, each as they stand."""
+    return [part for many in range(len(things) + 1) for part in combinations(things, many)]
+
+
+def all_works(names, *, askings=None):
+    """All works of these names with any asks, by COPYING's asks as told, else by all that there are."""
+    if askings is None:
+        askings = subsets(names)
+    return [
+        works(*[kind(name, *words) for name, words in zip(names, row)], asks=asks)
+        for row in product(subsets(names), repeat=len(names))
+        for asks in askings
+    ]
+
+
+def good_list(plant):
+    """The GOODS of a WORKS."""
+    return [(word, one[0]) for word in ("leaf", "tool") for one in plant[0]]
+
+
+def straight(plant, good):
+    """The GOODS on which this one HANGS STRAIGHT, as a set."""
+    asks = {one[0]: one[1] for one in plant[0]}[good[1]] if good[0] == "tool" else plant[1][0]
+    return {("leaf", good[1])} | {("tool", word) for word, _ in asks}
+
+
+def hangs(plant):
+    """Of each GOOD all on which it HANGS, by joining until nothing more comes."""
+    told = {good: straight(plant, good) for good in good_list(plant)}
+    for _ in told:
+        told = {good: ons.union(*[told[other] for other in ons]) for good, ons in told.items()}
+    return told
+
+
+def ever(plant, stock):
+    """EVER of a STOCK: the least of all sets that have each GOOD that HANGS STRAIGHT on it and the STOCK."""
+    goods = good_list(plant)
+    closed = [
+        set(part) for part in subsets(goods)
+        if all(good in part for good in goods if straight(plant, good) <= set(stock) | set(part))
+    ]
+    return set.intersection(*closed)
+
+
+def reached(plant, stock):
+    """EVER of a STOCK likewise, quicker: what can come, again and again."""
+    come = set()
+    for _ in good_list(plant):
+        come = {good for good in good_list(plant) if straight(plant, good) <= come | set(stock)}
+    return come
+
+
+def starts(plant):
+    """All STARTS of a WORKS, by looking at each STOCK that there is."""
+    goods = good_list(plant)
+    full = [set(stock) for stock in subsets(goods) if reached(plant, stock) == set(goods)]
+    return sorted(tuple(sorted(stock)) for stock in full if not any(other < stock for other in full))
+
+
+def is_barren(plant, stock, part):
+    """Whether a set of GOODS is a BARREN SET of a STOCK."""
+    return not set(part) & set(stock) and all(straight(plant, good) & set(part) for good in part)
