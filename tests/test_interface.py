@@ -1,0 +1,45 @@
+"""The document's interface: each name in its file, with its arguments."""
+
+import importlib
+import inspect
+import unittest
+
+INTERFACE = {
+    "kinds": {
+        "is_number": "(thing)", "is_word": "(thing)", "is_kind": "(thing)", "is_copying": "(thing)",
+        "is_agreeing": "(thing)", "is_bounds": "(thing, *, least=2)", "is_spring": "(thing)", "is_foe": "(thing)",
+        "is_works": "(thing)",
+    },
+    "acts": {"is_good": "(thing)", "is_deed": "(thing, *, agreed=None)", "is_strike": "(thing)"},
+    "goods": {"kind_called": "(works, name)", "goods_of": "(works)"},
+    "worksfit": {"is_whole": "(thing)", "lets_works": "(thing)"},
+    "hangs": {"hangs_straight": "(works, good)", "hangs_on": "(works, good)", "rings_of": "(works)"},
+    "births": {"ever_come": "(works, stock)", "birth_row": "(works, stock)", "starts_of": "(works)"},
+    "birthchecker": {"lets_birth": "(works, stock, thing)"},
+    "barrens": {"barren_goods": "(works, stock)"},
+    "barrenchecker": {"lets_barren_goods": "(works, stock, thing)"},
+    "workstexts": {"works_text": "(works)"},
+    "worksreading": {"works_read": "(text)"},
+    "stands": {
+        "void_stand": "(works, *, phase=None, rest=0)", "full_stand": "(works, *, phase=None, rest=0)",
+    },
+    "errors": {
+        "NoPaper": "(word, at)", "NoWorks": "(word, at)", "NoDeed": "(deed, why)", "NoRow": "(k, why)",
+        "NoMore": "(many)", "NoKeep": "(deed)", "NoHouse": "(name)", "NoBack": "(times)",
+        "NoText": "(line, word)", "NoLine": "(line)",
+    },
+}
+
+
+class Interface(unittest.TestCase):
+    def test_each_name_is_defined_in_its_file_with_its_arguments(self):
+        for file, names in INTERFACE.items():
+            module = importlib.import_module("handsmade." + file)
+            for name, arguments in names.items():
+                told = getattr(module, name)
+                self.assertEqual(told.__module__, "handsmade." + file, name)
+                self.assertEqual(str(inspect.signature(told)), arguments, name)
+
+
+if __name__ == "__main__":
+    unittest.main()
