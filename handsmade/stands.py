@@ -1,4 +1,4 @@
-"""The VOID STAND and the FULL one of a WORKS."""
+"""The VOID STAND and the FULL one of a WORKS, and a STAND with one thing of it changed."""
 
 
 def phase_told(works, phase):
@@ -19,3 +19,14 @@ def full_stand(works, *, phase=None, rest=0):
     many = len(works[0])
     uses, sheets, bright, store = works[3]
     return (uses,) * many, ((bright,) * sheets,) * many, store, (), phase_told(works, phase), rest
+
+
+def put_at(things, k, thing):
+    """The tuple with another thing in place k."""
+    return things[:k] + (thing,) + things[k + 1:]
+
+
+def without_making(stand, j):
+    """The STAND without making number j."""
+    makings = stand[3]
+    return put_at(stand, 3, makings[:j] + makings[j + 1:])

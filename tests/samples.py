@@ -2,6 +2,8 @@
 
 from itertools import combinations, product
 
+from handsmade.errors import HandsError
+
 # The greatest NUMBER of sixty figures.
 BIG = 10 ** 60 - 1
 
@@ -99,3 +101,24 @@ def starts(plant):
 def is_barren(plant, stock, part):
     """Whether a set of GOODS is a BARREN SET of a STOCK."""
     return not set(part) & set(stock) and all(straight(plant, good) & set(part) for good in part)
+
+
+# A works of one KIND with few STANDS, and two of more KINDS with all that can differ different.
+TINY = ((("a", (("a", 1),), 1, 2, 2, 1),), ((), 1, 1), (2, 1, 1), (2, 2, 1, 2), (1, 2), (1, 1), 2)
+PLANT = (
+    (("cup", (("pen", 1),), 3, 2, 2, 1), ("pen", (), 1, 1, 1, 0)),
+    ((("cup", 1), ("pen", 2)), 1, 3), (3, 2, 2), (3, 4, 2, 6), (2, 3), (2, 3), 2,
+)
+MILL = (
+    (("a", (("b", 2), ("c", 1)), 4, 4, 3, 4), ("b", (), 0, 1, 1, 0), ("c", (("c", 1),), 2, 3, 4, 1)),
+    ((), 2, 1), (2, 0, 3), (6, 5, 3, 6), (4, 2), (1, 2), 2,
+)
+
+
+def refusal(told, *arguments, **more):
+    """The name and the fields of what is refused, None where nothing is."""
+    try:
+        told(*arguments, **more)
+    except HandsError as error:
+        return (error.__class__.__name__, *[value for _, value in sorted(vars(error).items())])
+    return None

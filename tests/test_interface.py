@@ -23,6 +23,17 @@ INTERFACE = {
     "stands": {
         "void_stand": "(works, *, phase=None, rest=0)", "full_stand": "(works, *, phase=None, rest=0)",
     },
+    "standchecker": {"lets_stand": "(works, thing)", "is_right_stand": "(works, thing)"},
+    "order": {
+        "is_no_less": "(stand, other)", "pairing": "(stand, other)", "lets_pairing": "(stand, other, thing)",
+    },
+    "deeds": {
+        "barred_by": "(works, stand, deed)", "done": "(works, stand, deed)", "deeds_at": "(works, stand)",
+    },
+    "beats": {"beat_passed": "(works, stand)"},
+    "strikes": {"strikes_at": "(works, stand)", "struck": "(works, stand, strike)"},
+    "standrows": {"run": "(works, stand, row)"},
+    "ledger": {"ledger_of": "(works, stand, row)"},
     "errors": {
         "NoPaper": "(word, at)", "NoWorks": "(word, at)", "NoDeed": "(deed, why)", "NoRow": "(k, why)",
         "NoMore": "(many)", "NoKeep": "(deed)", "NoHouse": "(name)", "NoBack": "(times)",
