@@ -34,6 +34,16 @@ INTERFACE = {
     "strikes": {"strikes_at": "(works, stand)", "struck": "(works, stand, strike)"},
     "standrows": {"run": "(works, stand, row)"},
     "ledger": {"ledger_of": "(works, stand, row)"},
+    "standtexts": {"stand_text": "(stand)", "stand_read": "(text)"},
+    "glow": {"is_bunch": "(thing)", "glow_of": "(lights)", "bunch_covers": "(one, other)"},
+    "bunchdeeds": {
+        "bunch_deeds": "(lights, *, many, bright)", "bunch_done": "(lights, deed, *, many, bright)",
+        "bunch_run": "(lights, row, *, many, bright)", "copied_out": "(lights)",
+    },
+    "fates": {"most_of": "(lights, word, *, many, bright)"},
+    "fatepapers": {"fate_paper": "(lights, word, *, many, bright, most=2000)"},
+    "fatechecker": {"lets_fate": "(lights, word, thing, *, many, bright)"},
+    "turns": {"turns_of": "(works, stand)", "turn_led": "(works, stand, turn)"},
     "errors": {
         "NoPaper": "(word, at)", "NoWorks": "(word, at)", "NoDeed": "(deed, why)", "NoRow": "(k, why)",
         "NoMore": "(many)", "NoKeep": "(deed)", "NoHouse": "(name)", "NoBack": "(times)",
