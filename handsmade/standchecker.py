@@ -68,7 +68,7 @@ def look_at_makings(works, makings):
     if len(makings) > works[6]:
         raise NoPaper("benches", -1)
     for j, making in enumerate(makings):
-        if not is_right_making(works, making) or making < makings[max(j - 1, 0)]:
+        if not is_right_making(works, making) or (j > 0 and making < makings[j - 1]):
             raise NoPaper("making", j)
 
 

@@ -2,7 +2,7 @@
 
 from handsmade.errors import NoText
 from handsmade.figures import FIGURES, number_read
-from handsmade.standchecker import is_made_thing, is_making
+from handsmade.standchecker import is_making
 
 
 def joined(words, between):
@@ -73,9 +73,7 @@ def making_read(word):
     parts = thing_word.split(".")
     thing = tuple(parts[:2] + [figures_read(part) for part in parts[2:]])
     making = (thing, figures_read(left_word))
-    if is_made_thing(thing) and is_making(making):
-        return making
-    return None
+    return making if is_making(making) else None
 
 
 def makings_read(word):
@@ -92,7 +90,8 @@ def stand_read(text):
     """The STAND, by kind alone, that a text writes; any other text is refused at the first word that can't stand."""
     words = text.split(" ")
     things = []
-    for at, (reader, word) in enumerate(zip(READERS, words)):
+    for at, word in enumerate(words[:len(READERS)]):
+        reader = READERS[at]
         thing = reader(word)
         if thing is None:
             raise NoText(0, at)

@@ -113,6 +113,11 @@ MILL = (
     (("a", (("b", 2), ("c", 1)), 4, 4, 3, 4), ("b", (), 0, 1, 1, 0), ("c", (("c", 1),), 2, 3, 4, 1)),
     ((), 2, 1), (2, 0, 3), (6, 5, 3, 6), (4, 2), (1, 2), 2,
 )
+# One in which no two numbers that could be taken for one another are the same; KINDS have the names of sorts.
+MIXED = (
+    (("leaf", (), 3, 2, 1, 1), ("stuff", (("leaf", 1),), 5, 4, 2, 3), ("tool", (), 1, 3, 3, 0)),
+    ((), 4, 6), (2, 2, 3), (4, 3, 1, 7), (3, 8), (2, 5), 3,
+)
 
 
 def refusal(told, *arguments, **more):

@@ -7,7 +7,7 @@ from handsmade.order import is_no_less
 from handsmade.standchecker import is_right_stand
 from handsmade.stands import full_stand, void_stand
 from plain import Plain, all_stands, making_list
-from samples import MILL, PLANT, TINY, changed
+from samples import MILL, MIXED, PLANT, TINY, changed
 
 CUP = ("tool", "cup")
 PEN = ("tool", "pen")
@@ -120,7 +120,7 @@ class Beats(unittest.TestCase):
     def test_against_the_plainest_way(self):
         for stand in all_stands(TINY):
             self.same(TINY, stand)
-        for plant in (PLANT, MILL):
+        for plant in (PLANT, MILL, MIXED):
             makings = making_list(plant)
             for phase in range(1, plant[4][1] + 1):
                 for rest, filled in enumerate((void_stand(plant, phase=phase), full_stand(plant, phase=phase))):

@@ -55,6 +55,10 @@ class Deeds(unittest.TestCase):
         ):
             self.assertIsNone(bunch_done(lights, deed, many=2, bright=2), (lights, deed))
 
+    def test_agree_of_too_few_or_too_many(self):
+        for lights in ((), (0,), (0, 0), (0, 0, 0, 0), (0, 0, 0, 0, 0)):
+            self.assertIsNone(bunch_done((0,) * 5, ("agree", lights), many=3, bright=2))
+
     def test_many_and_bright_by_their_names_alone(self):
         for told in (bunch_deeds, lambda *places: bunch_done((1,), ("make", 1), *places[1:])):
             with self.assertRaises(TypeError):

@@ -8,7 +8,7 @@ from handsmade.order import is_no_less
 from handsmade.standchecker import is_right_stand
 from handsmade.stands import full_stand, void_stand
 from plain import Plain, all_stands, deed_list, falling
-from samples import BIG, MILL, PLANT, TINY, changed
+from samples import BIG, MILL, MIXED, PLANT, TINY, changed
 
 CUP = ("tool", "cup")
 PEN = ("tool", "pen")
@@ -182,7 +182,7 @@ class AllDeeds(unittest.TestCase):
     def stands(self):
         for stand in all_stands(TINY)[::5]:
             yield TINY, stand
-        for plant in (PLANT, MILL):
+        for plant in (PLANT, MILL, MIXED):
             many = len(plant[0])
             uses, sheets, bright, store = plant[3]
             for k, lights in enumerate(falling(range(bright + 1), sheets) + falling(range(bright + 1), 2) + [()]):

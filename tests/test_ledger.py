@@ -7,7 +7,7 @@ from handsmade.ledger import ledger_of
 from handsmade.standrows import run
 from handsmade.stands import full_stand, void_stand
 from plain import Plain
-from samples import BIG, MILL, PLANT, TINY, changed
+from samples import BIG, MILL, MIXED, PLANT, TINY, changed
 from walks import walks
 
 BEAT = ("beat",)
@@ -87,7 +87,7 @@ class Ledger(unittest.TestCase):
         self.tells(stand, row, (6, 4, 1 + 2 + 2, 3, 2))
 
     def test_against_the_plainest_way(self):
-        for plant, stand, row in walks((TINY, PLANT, MILL), 30, range(24)):
+        for plant, stand, row in walks((TINY, PLANT, MILL, MIXED), 30, range(24)):
             plain = Plain(plant, stand)
             begun = plain.stuff()
             for thing in row:

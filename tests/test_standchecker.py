@@ -6,7 +6,7 @@ from handsmade.errors import NoPaper
 from handsmade.standchecker import is_right_stand, lets_stand
 from handsmade.stands import full_stand, void_stand
 from plain import all_stands
-from samples import BIG, MILL, ODD, PLANT, TINY, changed
+from samples import BIG, MILL, MIXED, ODD, PLANT, TINY, changed
 from test_kinds import NO_NUMBERS, NO_WORDS
 
 CUP = ("tool", "cup")
@@ -138,6 +138,25 @@ class Numbers(Looks):
             self.right(changed(STAND, 5, rest))
         for rest in (4, BIG):
             self.wrong(changed(STAND, 5, rest), "rest", -1)
+
+
+    def test_each_bound_is_its_own(self):
+        full = full_stand(MIXED, rest=5)
+        self.right(full, MIXED)
+        for at, most, word in ((2, 7, "store"), (4, 8, "phase"), (5, 5, "rest")):
+            for number in range(1, most + 1):
+                self.right(changed(full, at, number), MIXED)
+            self.wrong(changed(full, at, most + 1), word, -1, MIXED)
+        for thing, most in (
+            (("tool", "leaf"), 2), (("tool", "stuff"), 4), (("tool", "tool"), 3), (("leaf", "tool", 0), 6),
+            (("leaf", "stuff", 1), 3),
+        ):
+            for left in range(1, most + 1):
+                self.right(changed(full, 3, ((thing, left),) * 3), MIXED)
+            self.wrong(changed(full, 3, ((thing, most + 1),)), "making", 0, MIXED)
+        for light in (2, 3, 4):
+            self.wrong(changed(full, 3, ((("leaf", "tool", light), 1),)), "making", 0, MIXED)
+        self.wrong(changed(full, 3, ((("tool", "leaf"), 1),) * 4), "benches", -1, MIXED)
 
 
 class Makings(Looks):

@@ -9,7 +9,7 @@ from handsmade.standchecker import is_right_stand
 from handsmade.standrows import run
 from handsmade.stands import full_stand, void_stand
 from plain import Plain
-from samples import BIG, MILL, ODD, PLANT, TINY, changed
+from samples import BIG, MILL, MIXED, ODD, PLANT, TINY, changed
 from walks import walks
 
 BEAT = ("beat",)
@@ -37,7 +37,7 @@ class Rows(unittest.TestCase):
         self.assertEqual(run(PLANT, STAND, row), (stands, ((("tool", "pen"),), (), (), ())))
 
     def test_against_the_plainest_way(self):
-        for plant, stand, row in walks((TINY, PLANT, MILL), 30, range(24)):
+        for plant, stand, row in walks((TINY, PLANT, MILL, MIXED), 30, range(24)):
             plain = Plain(plant, stand)
             stands, come = [stand], []
             for thing in row:
@@ -60,14 +60,14 @@ class Rows(unittest.TestCase):
                 self.assertEqual((ahead + behind[1:], first + second), (stands, come))
 
     def test_strikes_are_as_far_apart_as_the_foe_rests(self):
-        for plant, stand, row in walks((TINY, PLANT, MILL), 30, range(24)):
+        for plant, stand, row in walks((TINY, PLANT, MILL, MIXED), 30, range(24)):
             strikes = [k for k, thing in enumerate(row) if thing[0] == "strike"]
             for one, other in zip(strikes, strikes[1:]):
                 self.assertGreaterEqual(row[one:other].count(BEAT), plant[5][1])
 
     def test_what_comes_in_a_quiet_row_comes_of_the_stock(self):
         """[18]: what is made, copied, comes is in EVER of the STAND's STOCK, nothing of a BARREN SET of it."""
-        for plant, stand, row in walks((TINY, PLANT, MILL), 30, range(24)):
+        for plant, stand, row in walks((TINY, PLANT, MILL, MIXED), 30, range(24)):
             stands, come = run(plant, stand, row)
             quiet = next((k for k, thing in enumerate(row) if thing[0] == "strike"), len(row))
             beats = row[:quiet].count(BEAT)
@@ -100,7 +100,8 @@ class Refused(unittest.TestCase):
             ["beat"], ("beat", 1), ("beats",), ("Beat",), "beat", ("strike",), ("strike", ()), ("strike", "stuff"),
             ("strike", ["stuff"]), ("strike", ("stuff",), 1), ["strike", ("stuff",)], ("stuff",), ("tool", "cup"),
             ("leaf", "cup", 1), ("making", 0), ("strike", ("tool", "Cup")), ("strike", ("making", True)),
-            ("strike", ("leaf", "cup", -1)), ("strike", MAKE), ("strike", BEAT), ("strike", STUFF), ("make", "cup", True),
+            ("strike", ("leaf", "cup", -1)), ("strike", MAKE), ("strike", BEAT), ("strike", STUFF), ("beat", ("stuff",)),
+            ("make", ("stuff",)), ("strikes", ("tool", "cup")), ("make", "cup", True),
             ("make", "cup", -1), ("make", "cup"), ("copy", "cup", None), ("break", True), ("break", -1), ("break", "0"),
             ("agree", "cup", (0, 1)), ("agree", "cup", (1,)), ("agree", "cup", [1, 0]), ("agree", "cup", (1, True)),
             ["make", "cup", 2], ("do", MAKE), (MAKE,), (BEAT,),

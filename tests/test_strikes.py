@@ -8,7 +8,7 @@ from handsmade.standchecker import is_right_stand
 from handsmade.stands import full_stand, void_stand
 from handsmade.strikes import strikes_at, struck
 from plain import Plain, all_stands, strike_list
-from samples import BIG, MILL, PLANT, TINY, changed
+from samples import BIG, MILL, MIXED, PLANT, TINY, changed
 
 CUP = (("tool", "cup"), 2)
 PEN = (("tool", "pen"), 1)
@@ -111,7 +111,7 @@ class AllStrikes(unittest.TestCase):
 
     def test_against_going_through_all(self):
         stands = [(TINY, stand) for stand in all_stands(TINY)]
-        for plant in (PLANT, MILL):
+        for plant in (PLANT, MILL, MIXED):
             stands += [(plant, void_stand(plant)), (plant, full_stand(plant)), (plant, full_stand(plant, rest=1))]
         stands += [(PLANT, STAND), (PLANT, changed(STAND, 0, (0, 2))), (PLANT, changed(STAND, 2, 0))]
         for plant, stand in stands:
