@@ -34,12 +34,18 @@ def makings_ended(works, stand):
     return stand, tuple(sorted({thing[:2] for thing in ended if thing[0] == "tool" or thing[2] > 0}))
 
 
-def beat_passed(works, stand):
-    """The STAND behind the BEAT, and what COMES."""
-    (uses, leaves, store, makings, phase, rest), comes = makings_ended(works, stand)
+def time_passed(works, stand):
+    """The STAND behind what a beat does aside from the makings: its phase, with the flow, and its rest."""
+    uses, leaves, store, makings, phase, rest = stand
     flow, drip = works[4]
     phase -= 1
     if phase == 0:
         store = min(store + flow, works[3][3])
         phase = drip
-    return (uses, leaves, store, makings, phase, max(rest - 1, 0)), comes
+    return uses, leaves, store, makings, phase, max(rest - 1, 0)
+
+
+def beat_passed(works, stand):
+    """The STAND behind the BEAT, and what COMES."""
+    ended, comes = makings_ended(works, stand)
+    return time_passed(works, ended), comes

@@ -1,4 +1,4 @@
-"""STRIKES at a STAND: all that can be made, and the STAND behind one."""
+"""STRIKES at a STAND: all that can be made, and the STAND behind one; the WAYS in which it may be STRUCK."""
 
 from handsmade.errors import NoDeed
 from handsmade.glow import without_lights
@@ -47,3 +47,15 @@ def struck(works, stand, strike):
     if strike[0] == "tool":
         return put_at(stand, 0, put_at(stand[0], k, max(stand[0][k] - blow, 0)))
     return put_at(stand, 1, put_at(stand[1], k, without_lights(stand[1][k], (strike[2],))))
+
+
+def ways_of(works, stand):
+    """The WAYS of the STAND: None, then its STRIKES, rising."""
+    return (None,) + strikes_at(works, stand)
+
+
+def struck_so(works, stand, way):
+    """The STAND as it is STRUCK in a WAY of it."""
+    if way is None:
+        return stand
+    return struck(works, stand, way)

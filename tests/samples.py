@@ -119,6 +119,29 @@ MIXED = (
     ((), 4, 6), (2, 2, 3), (4, 3, 1, 7), (3, 8), (2, 5), 3,
 )
 
+# Works of one KIND of which some STANDS are kept: SMALL has none but leaves and tools; in ASKED copying asks two uses,
+# and all but making takes stuff; in DRIPS the spring drips each second beat; in SLOW agreeing takes two beats.
+SMALL = ((("a", (), 0, 1, 1, 0),), ((), 0, 1), (2, 0, 1), (1, 3, 2, 0), (1, 1), (1, 3), 2)
+ASKED = ((("a", (), 0, 1, 3, 0),), ((("a", 2),), 1, 1), (2, 1, 1), (2, 3, 3, 2), (2, 1), (2, 3), 2)
+DRIPS = ((("a", (), 0, 1, 3, 0),), ((), 0, 1), (2, 1, 1), (1, 2, 3, 1), (1, 2), (2, 3), 2)
+SLOW = ((("a", (), 0, 1, 2, 0),), ((), 1, 1), (2, 0, 2), (2, 2, 3, 1), (2, 1), (1, 5), 2)
+# One whose tool asks its like and costs stuff, with one bench; and one that falls in many rounds.
+NEEDY = ((("a", (("a", 1),), 2, 1, 3, 2),), ((), 1, 1), (2, 1, 1), (2, 3, 3, 2), (2, 1), (1, 4), 1)
+FALLING = ((("a", (), 1, 1, 3, 1),), ((("a", 1),), 0, 1), (2, 1, 1), (2, 3, 2, 1), (1, 1), (2, 3), 2)
+# Works of which another one can be cut: WIDE has none but leaves and tools; in STUFF making takes two grains and gives
+# one back, agreeing takes one, and two spring every second beat; in TAKING copying takes one, agreeing three.
+WIDE = ((("a", (), 0, 1, 1, 0),), ((), 0, 1), (2, 0, 1), (1, 4, 3, 0), (0, 1), (1, 4), 2)
+STUFF = ((("a", (), 2, 1, 1, 1),), ((), 0, 1), (2, 1, 1), (1, 3, 3, 3), (2, 2), (1, 6), 2)
+TAKING = ((("a", (), 2, 1, 1, 1),), ((), 1, 1), (2, 3, 2), (1, 3, 3, 4), (3, 1), (1, 8), 2)
+# One of two KINDS with a little WEB, all of which falls.
+PAIR = (
+    (("a", (("b", 1),), 1, 1, 1, 0), ("b", (), 0, 1, 2, 0)), ((), 0, 1), (2, 1, 1), (1, 2, 1, 1), (1, 1), (1, 2), 1,
+)
+# One of two KINDS of which some STANDS are kept, with a WEB of nearly MOST.
+TWINS = (
+    (("a", (), 0, 1, 1, 0), ("b", (("a", 1),), 0, 1, 1, 0)), ((), 0, 1), (2, 0, 1), (1, 2, 2, 0), (0, 1), (1, 5), 3,
+)
+
 
 def refusal(told, *arguments, **more):
     """The name and the fields of what is refused, None where nothing is."""

@@ -21,6 +21,15 @@ BUILTINS = set(
     "classmethod Exception ValueError TypeError KeyError IndexError LookupError ZeroDivisionError ArithmeticError "
     "OverflowError RuntimeError NotImplementedError AttributeError StopIteration NotImplemented".split()
 )
+DOUBLE = ("__init__", "__eq__", "__len__", "__str__")
+ITERATED = ("range", "zip", "enumerate", "reversed")
+VIEWS = ("items", "keys", "values")
+HANDED = ("list", "tuple", "dict", "sorted", "sum", "any", "all", "enumerate", "zip", "reversed", "min", "max", "len")
+METHODS = set(
+    "append clear copy count endswith extend find get index insert isalnum isalpha isdigit islower isspace isupper items "
+    "join keys ljust lower lstrip partition pop remove replace reverse rfind rjust rpartition rsplit rstrip setdefault "
+    "split splitlines startswith strip update upper values zfill bit_length isascii".split()
+)
 BARRED = (
     ast.Global, ast.AsyncFunctionDef, ast.AsyncFor, ast.AsyncWith, ast.Await, ast.GeneratorExp, ast.Div, ast.Import,
 )
@@ -109,9 +118,43 @@ class Language(unittest.TestCase):
                 if isinstance(node, (ast.FunctionDef, ast.ClassDef)):
                     bound.append(node.name)
                 for word in bound:
-                    if word != "__init__":
+                    if word not in DOUBLE:
                         self.assertFalse(hasattr(builtins, word), (name, word))
                         self.assertFalse(word.startswith("__") and not isinstance(node, ast.FunctionDef), (name, word))
+
+    def test_no_local_name_is_an_import_or_a_class(self):
+        for name, tree in self.trees.items():
+            taken = {alias.name for node in tree.body if isinstance(node, ast.ImportFrom) for alias in node.names}
+            taken |= {node.name for node in tree.body if isinstance(node, ast.ClassDef)}
+            for node in ast.walk(tree):
+                if isinstance(node, ast.arg):
+                    self.assertNotIn(node.arg, taken, name)
+                if isinstance(node, ast.Name) and isinstance(node.ctx, ast.Store):
+                    self.assertNotIn(node.id, taken, name)
+
+    def test_ranges_and_views_are_iterated_at_once(self):
+        for name, tree in self.trees.items():
+            parents = {child: node for node in ast.walk(tree) for child in ast.iter_child_nodes(node)}
+            for node in ast.walk(tree):
+                if not isinstance(node, ast.Call):
+                    continue
+                if getattr(node.func, "id", None) not in ITERATED and getattr(node.func, "attr", None) not in VIEWS:
+                    continue
+                over = parents[node]
+                if isinstance(over, (ast.For, ast.comprehension)):
+                    self.assertIs(over.iter, node, (name, node.lineno))
+                elif isinstance(over, ast.Call):
+                    self.assertIn(getattr(over.func, "id", None), HANDED, (name, node.lineno))
+                else:
+                    self.assertIsInstance(over, ast.Assign, (name, node.lineno))
+                    self.assertEqual(node.func.id, "range", (name, node.lineno))
+
+    def test_methods_called(self):
+        own = {node.name for tree in self.trees.values() for node in ast.walk(tree) if isinstance(node, ast.FunctionDef)}
+        for name, tree in self.trees.items():
+            for node in ast.walk(tree):
+                if isinstance(node, ast.Call) and isinstance(node.func, ast.Attribute):
+                    self.assertIn(node.func.attr, METHODS | own, (name, node.lineno))
 
     def test_builtins_used(self):
         for name, tree in self.trees.items():
