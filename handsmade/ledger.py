@@ -9,6 +9,11 @@ def stuff_in(works, stand):
     return stand[2] + sum([terms_of(works, thing)[0] for thing, _ in stand[3]])
 
 
+def sprung_by(works, stand):
+    """What the spring brings in the BEAT of the STAND, whatever of it the store can hold."""
+    return works[4][0] if stand[4] == 1 else 0
+
+
 def ledger_of(works, stand, row):
     """(begun, sprung, ash, struck, there) of a STAND and a ROW."""
     stands, _ = run(works, stand, row)
@@ -16,8 +21,7 @@ def ledger_of(works, stand, row):
     ash = 0
     struck = 0
     for thing, ahead, behind in zip(row, stands, stands[1:]):
-        # The spring drips in the beat that ends its last phase, whatever of it the store can hold.
-        came = works[4][0] if thing == BEAT and ahead[4] == 1 else 0
+        came = sprung_by(works, ahead) if thing == BEAT else 0
         gone = stuff_in(works, ahead) + came - stuff_in(works, behind)
         sprung += came
         if thing[0] == "strike":

@@ -44,11 +44,47 @@ INTERFACE = {
     "fatepapers": {"fate_paper": "(lights, word, *, many, bright, most=2000)"},
     "fatechecker": {"lets_fate": "(lights, word, thing, *, many, bright)"},
     "turns": {"turns_of": "(works, stand)", "turn_led": "(works, stand, turn)"},
+    "webs": {
+        "next_of": "(works, stand)", "quiet_web": "(works, stand, *, most=2000)", "whole_web": "(works, stand, *, most=2000)",
+    },
+    "comes": {
+        "beats_to": "(works, stand, good, *, most=2000)", "quiet_row": "(works, stand, good, *, most=2000)",
+    },
+    "alive": {"goods_to_come": "(works, stand, *, most=2000)", "is_alive": "(works, stand, *, most=2000)"},
+    "comepapers": {"come_paper": "(works, stand, good, *, most=2000)"},
+    "comechecker": {"lets_come": "(works, stand, good, thing)"},
+    "kept": {
+        "kept_within": "(works, stand, *, most=2000)", "fallen_within": "(works, stand, *, most=2000)",
+        "is_kept": "(works, stand, *, most=2000)", "is_safe": "(works, stand, *, most=2000)",
+    },
+    "keptpapers": {"kept_paper": "(works, stand, *, most=2000)"},
+    "keptchecker": {"lets_kept": "(works, stand, thing)"},
+    "leaststands": {"lowered": "(works, stand)", "least_stands": "(works, *, phase, rest, most=2000)"},
+    "drychecker": {"lets_dry": "(works, thing)"},
+    "dry": {"dry_paper": "(works, *, highest=3)"},
+    "cuttings": {
+        "is_lot": "(works, thing)", "left_of": "(works, stand, lot)", "daughter_of": "(works, stand, lot)",
+        "may_cut": "(works, stand, lot, *, most=2000)", "least_cuttings": "(works, stand, *, most=2000)",
+    },
+    "keeper": {"Keeper": "(works, stand)"},
+    "replaying": {"replayed": "(log)"},
+    "desk": {"Desk": "()"},
     "errors": {
         "NoPaper": "(word, at)", "NoWorks": "(word, at)", "NoDeed": "(deed, why)", "NoRow": "(k, why)",
         "NoMore": "(many)", "NoKeep": "(deed)", "NoHouse": "(name)", "NoBack": "(times)",
         "NoText": "(line, word)", "NoLine": "(line)",
     },
+}
+
+METHODS = {
+    ("keeper", "Keeper"): {
+        "do": "(self, name, deed)", "beat": "(self)", "strike": "(self, name, strike)", "cut": "(self, name, fresh, lot)",
+        "give": "(self, name, other, lot)", "works_now": "(self)", "names": "(self)", "__len__": "(self)", "has": "(self, thing)",
+        "stand_of": "(self, name)", "is_open": "(self, name)", "came": "(self, name)", "rows_of": "(self, name)",
+        "ledger": "(self, name)", "may": "(self, name)", "may_beat": "(self)", "log": "(self)", "__str__": "(self)",
+        "__eq__": "(self, other)", "back": "(self, *, times=1)", "do_all": "(self, rows, *, keep=False)", "counts": "(self)",
+    },
+    ("desk", "Desk"): {"say": "(self, row)", "counts": "(self)"},
 }
 
 
@@ -60,6 +96,12 @@ class Interface(unittest.TestCase):
                 told = getattr(module, name)
                 self.assertEqual(told.__module__, "handsmade." + file, name)
                 self.assertEqual(str(inspect.signature(told)), arguments, name)
+
+    def test_each_method_is_defined_in_its_class(self):
+        for (file, name), methods in METHODS.items():
+            told = getattr(importlib.import_module("handsmade." + file), name)
+            for method, arguments in methods.items():
+                self.assertEqual(str(inspect.signature(vars(told)[method])), arguments, method)
 
 
 if __name__ == "__main__":
