@@ -27,32 +27,28 @@ def no_more_in(stand, others):
     return None
 
 
+def stand_ins(marks, stands, first_in):
+    """Of each STAND, as they stand, the first ahead of it of its mark that first_in finds, itself where none is."""
+    found = {}
+    firsts = {}
+    for stand in stands:
+        ahead = firsts.setdefault(marks[stand], [])
+        other = first_in(stand, ahead)
+        if other is None:
+            other = stand
+            ahead.append(stand)
+        found[stand] = other
+    return found
+
+
 def greatest_for(marks):
     """Of each STAND, handed in with its mark, one of the greatest of that mark that is NO LESS."""
-    found = {}
-    greatest = {}
-    for stand in sorted(marks, key=bulk, reverse=True):
-        tops = greatest.setdefault(marks[stand], [])
-        over = no_less_in(stand, tops)
-        if over is None:
-            over = stand
-            tops.append(stand)
-        found[stand] = over
-    return found
+    return stand_ins(marks, sorted(marks, key=bulk, reverse=True), no_less_in)
 
 
 def least_for(marks):
     """Of each STAND, handed in with its mark, one of the least of that mark that is NO MORE."""
-    found = {}
-    least = {}
-    for stand in sorted(marks, key=bulk):
-        lows = least.setdefault(marks[stand], [])
-        under = no_more_in(stand, lows)
-        if under is None:
-            under = stand
-            lows.append(stand)
-        found[stand] = under
-    return found
+    return stand_ins(marks, sorted(marks, key=bulk), no_more_in)
 
 
 class Tops:

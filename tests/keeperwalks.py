@@ -1,7 +1,6 @@
 """Rows for KEEPERS that go on and on, the same each time, some of them refused."""
 
 from plain import deed_list, strike_list
-from walks import numbers
 
 BEAT = ("beat",)
 FRESH = ("mother", "cup", "pen", "cup", "pen")
@@ -33,7 +32,8 @@ def some_row(keeper, plant, chance):
     if pick < 10 and len(names) < 3:
         return "cut", name, FRESH[next(chance) % len(FRESH)], some_lot(plant, stand, chance)
     if pick < 12 and len(names) > 1:
-        return "give", name, (names * 4 + ["house"])[next(chance) % (4 * len(names) + 1)], some_lot(plant, stand, chance)
+        return "give", name, (names * 4 + ["house"])[next(chance) % (4 * len(names) + 1)], some_lot(plant, stand,
+                                                                                                    chance)
     deeds = deed_list(plant)
     if pick < 21:
         deeds = list(keeper.may(name)) or deeds

@@ -210,6 +210,16 @@ def all_stands(plant):
     ]
 
 
+def some_stands(plant, many):
+    """About so many of all RIGHT STANDS of a little works, the void and the full one among them."""
+    stands = all_stands(plant)
+    uses, sheets, bright, store = plant[3]
+    kinds = len(plant[0])
+    void = ((0,) * kinds, ((),) * kinds, 0, (), plant[4][1], 0)
+    full = ((uses,) * kinds, ((bright,) * sheets,) * kinds, store, (), plant[4][1], 0)
+    return stands[::max(1, len(stands) // many)] + [full, void]
+
+
 def covers_making(one, other):
     """Whether one making may be paired with the other, which is to have it."""
     (thing, left), (what, beats) = one, other

@@ -189,7 +189,8 @@ def looks_of(keeper):
     return {
         "names": keeper.names(), "log": keeper.log(), "str": str(keeper),
         "houses": [
-            (name, keeper.stand_of(name), keeper.is_open(name), keeper.came(name), keeper.rows_of(name), keeper.ledger(name))
+            (name, keeper.stand_of(name), keeper.is_open(name), keeper.came(name), keeper.rows_of(name),
+             keeper.ledger(name))
             for name in keeper.names()
         ],
     }

@@ -12,7 +12,7 @@ from handsmade.stands import full_stand, void_stand
 from handsmade.turns import turns_of
 from handsmade.webs import quiet_web
 from papers import changes, come_told
-from plain import all_stands
+from plain import some_stands
 from samples import ASKED, BIG, DRIPS, FALLING, MILL, NEEDY, ODD, PAIR, SLOW, SMALL, TINY, TWINS, changed, refusal
 
 LITTLE = (TINY, SMALL, ASKED, DRIPS, SLOW, NEEDY, FALLING)
@@ -24,16 +24,11 @@ DARK = ((0,), ((0,),), 0, (), 1, 0)
 DARK_USED = ((1,), ((0,),), 0, (), 1, 3)
 
 
-def some(plant, many):
-    stands = all_stands(plant)
-    return stands[::max(1, len(stands) // many)] + [full_stand(plant), void_stand(plant)]
-
-
 class Papers(unittest.TestCase):
     def test_told_is_let_by(self):
         words = set()
         for plant in LITTLE:
-            for stand in some(plant, 20):
+            for stand in some_stands(plant, 20):
                 for good in (LEAF, TOOL):
                     paper = come_paper(plant, stand, good)
                     word = "barren" if beats_to(plant, stand, good) is None else "row"
@@ -54,7 +49,8 @@ class Papers(unittest.TestCase):
         for stand, good in ((START, LEAF), (DARK, LEAF), (DARK, TOOL)):
             many = len(quiet_web(SMALL, stand))
             self.assertEqual(come_paper(SMALL, stand, good, most=many), come_paper(SMALL, stand, good))
-            self.assertEqual(come_paper(works=SMALL, stand=stand, good=good, most=many)[0], come_paper(SMALL, stand, good)[0])
+            self.assertEqual(come_paper(works=SMALL, stand=stand, good=good, most=many)[0],
+                             come_paper(SMALL, stand, good)[0])
             for most in (many - 1, 0):
                 self.assertEqual(refusal(come_paper, SMALL, stand, good, most=most), ("NoMore", most))
         self.assertEqual(refusal(come_paper, MILL, full_stand(MILL), LEAF), ("NoMore", MOST))
@@ -62,7 +58,7 @@ class Papers(unittest.TestCase):
     def test_a_paper_of_other_stands(self):
         """What a paper tells of a STAND it tells of what is NO MORE, or NO LESS, too."""
         for plant in (SMALL, DRIPS):
-            stands = some(plant, 60)
+            stands = some_stands(plant, 60)
             for stand in stands[::6]:
                 for good in (LEAF, TOOL):
                     paper = come_paper(plant, stand, good)
@@ -92,7 +88,8 @@ class Rows(unittest.TestCase):
 
     def test_end(self):
         for row in (
-            (), (BEAT,), (("make", "a", 2),), (("make", "a", 2), BEAT, ("make", "a", 1)), (("make", "a", 2), BEAT, BEAT),
+            (), (BEAT,), (("make", "a", 2),), (("make", "a", 2), BEAT, ("make", "a", 1)),
+            (("make", "a", 2), BEAT, BEAT),
             (("copy", "a", 2), BEAT), (("make", "a", 2), ("break", 0), BEAT),
         ):
             self.refused(("row", row), "end", -1)
@@ -104,16 +101,19 @@ class Rows(unittest.TestCase):
         beat = ("row", (("make", "a", 2), BEAT))
         self.assertEqual(lets_come(SMALL, START, TOOL, beat), "row")
         for thing in ODD + [
-            ("make", "a", True), ("make", "a", 0), ("make", "a", 3), ("make", "b", 2), ("make", "a", -2), ("make", "a", BIG),
+            ("make", "a", True), ("make", "a", 0), ("make", "a", 3), ("make", "b", 2), ("make", "a", -2),
+            ("make", "a", BIG),
             ("make", "a", "2"), ("copy", "a", 0), ("copy", "a", None), ["make", "a", 2], ("break", 0), ("break", False),
             ("agree", "a", (2, 2)), ("agree", "a", (2,)), ("agree", "a", [2, 2]), ("agree", "a", 2), ["beat"], "beat",
-            ("beat", 0), ("beat", "beat"), ("strike", ("leaf", "a", 2)), ("leaf", "a", 2), ("stuff",), (("make", "a", 2),),
+            ("beat", 0), ("beat", "beat"), ("strike", ("leaf", "a", 2)), ("leaf", "a", 2), ("stuff",),
+            (("make", "a", 2),),
         ]:
             self.refused(("row", (thing,) + beat[1]), "step", 0)
             self.refused(("row", beat[1] + (thing,)), "step", 2)
             self.refused(("row", (thing, thing)), "step", 0)
         self.refused(("row", (BEAT, BEAT, ("make", "a", True), BEAT)), "step", 2, stand=changed(START, 1, ((1,),)))
-        self.refused(("row", (("agree", "a", (True, 1)), BEAT)), "step", 0, stand=changed(START, 1, ((1, 1),)), good=LEAF)
+        self.refused(("row", (("agree", "a", (True, 1)), BEAT)), "step", 0, stand=changed(START, 1, ((1, 1),)),
+                     good=LEAF)
         self.refused(("row", (("make", "a", 2), ("break", False), BEAT)), "step", 1)
 
     def test_barred(self):
@@ -128,7 +128,8 @@ class Rows(unittest.TestCase):
     def test_shape(self):
         rows = [(), (BEAT,), (("make", "a", 2), BEAT)]
         for thing in ODD + rows + [
-            ("row",), ("row", []), ("row", None), ("row", "row"), ("row", [BEAT]), ("rows", ()), ("Row", ()), (None, ()),
+            ("row",), ("row", []), ("row", None), ("row", "row"), ("row", [BEAT]), ("rows", ()), ("Row", ()),
+            (None, ()),
             (True, ()), (["row"], ()), ("row", (), ()), ["row", ()], ("barren", [START]), ("barren",), ("barren", None),
             ("barren", (), ()), ["barren", (START,)], ("kept", ()), ((), "row"), (("row",), ()), ("row", True),
         ]:

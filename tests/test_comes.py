@@ -9,19 +9,13 @@ from handsmade.order import is_no_less
 from handsmade.standrows import run
 from handsmade.stands import full_stand, void_stand
 from handsmade.webs import quiet_web
-from plain import all_stands
+from plain import some_stands
 from samples import ASKED, DRIPS, FALLING, MILL, NEEDY, PAIR, SLOW, SMALL, TINY, TWINS, changed, good_list, refusal
 from webplain import quiet_beats
 
 LITTLE = (TINY, SMALL, ASKED, DRIPS, SLOW, NEEDY, FALLING)
 LEAF = ("leaf", "a")
 TOOL = ("tool", "a")
-
-
-def some(plant, many):
-    """Some RIGHT STANDS of a little works, with makings and all."""
-    stands = all_stands(plant)
-    return stands[::max(1, len(stands) // many)] + [full_stand(plant), void_stand(plant)]
 
 
 class Beats(unittest.TestCase):
@@ -81,7 +75,7 @@ class Beats(unittest.TestCase):
 
     def test_against_going_through_all(self):
         """By all QUIET ROWS, DEEDS in any order: TURNS do as well ([46])."""
-        cases = [(plant, stand) for plant in LITTLE for stand in some(plant, 15)]
+        cases = [(plant, stand) for plant in LITTLE for stand in some_stands(plant, 15)]
         cases += [(PAIR, full_stand(PAIR)), (PAIR, ((0, 0), ((1,), (1, 0)), 1, ((("tool", "a"), 1),), 1, 0))]
         for plant, stand in cases:
             told = quiet_beats(plant, stand)
@@ -100,7 +94,8 @@ class Beats(unittest.TestCase):
         self.assertIs(is_alive(TWINS, ((0, 0), ((2,), (2,)), 0, (), 1, 0)), True)
 
     def test_no_more(self):
-        for plant, stand in ((SMALL, full_stand(SMALL)), (ASKED, full_stand(ASKED)), (SMALL, void_stand(SMALL, rest=3))):
+        for plant, stand in ((SMALL, full_stand(SMALL)), (ASKED, full_stand(ASKED)),
+                             (SMALL, void_stand(SMALL, rest=3))):
             many = len(quiet_web(plant, stand))
             for good in (LEAF, TOOL):
                 for told in (beats_to, quiet_row):
@@ -129,7 +124,7 @@ class Beats(unittest.TestCase):
 class Alive(unittest.TestCase):
     def test_against_beats_to(self):
         for plant in LITTLE:
-            for stand in some(plant, 15):
+            for stand in some_stands(plant, 15):
                 goods = tuple(good for good in sorted(good_list(plant)) if beats_to(plant, stand, good) is not None)
                 told = goods_to_come(plant, stand)
                 self.assertEqual(told, goods)
@@ -137,13 +132,13 @@ class Alive(unittest.TestCase):
                 self.assertIs(is_alive(plant, stand), goods == tuple(sorted(good_list(plant))))
 
     def test_some_alone_can_come(self):
-        seen = {goods_to_come(plant, stand) for plant in LITTLE for stand in some(plant, 30)}
+        seen = {goods_to_come(plant, stand) for plant in LITTLE for stand in some_stands(plant, 30)}
         self.assertEqual(seen, {(), (LEAF,), (TOOL,), (LEAF, TOOL)})
 
     def test_more_never_harms(self):
         """(M2): what can come from a STAND can from each that is NO LESS, and as soon."""
         for plant in (SMALL, DRIPS):
-            stands = some(plant, 80)
+            stands = some_stands(plant, 80)
             told = {
                 stand: {good: beats_to(plant, stand, good) for good in goods_to_come(plant, stand)} for stand in stands
             }

@@ -45,7 +45,8 @@ class Covers(unittest.TestCase):
     def test_no_order_matters(self):
         for stands in self.stands():
             for told in (greatest_for, least_for):
-                ends = [set(told({stand: True for stand in row}).values()) for row in (stands, stands[::-1], sorted(stands))]
+                ends = [set(told({stand: True for stand in row}).values()) for row in (stands, stands[::-1],
+                                                                                       sorted(stands))]
                 self.assertEqual(ends[0], ends[1])
                 self.assertEqual(ends[0], ends[2])
 

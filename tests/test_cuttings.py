@@ -48,11 +48,13 @@ class Lots(unittest.TestCase):
             ((0, 0), ((1, 2), ()), 0), ((0, 0), ((), (0, 1)), 0), ((0,), ((),), 0), ((0, 0, 0), ((), (), ()), 0),
             ((0,), ((), ()), 0), ((0, 0), ((),), 0), ((), (), 0),
             # Lists, truths, numbers below 0.
-            [(0, 0), ((), ()), 0], ([0, 0], ((), ()), 0), ((0, 0), [(), ()], 0), ((0, 0), ([], ()), 0), ((0, 0), ([1], ()), 0),
+            [(0, 0), ((), ()), 0], ([0, 0], ((), ()), 0), ((0, 0), [(), ()], 0), ((0, 0), ([], ()), 0),
+            ((0, 0), ([1], ()), 0),
             ((True, 0), ((), ()), 0), ((0, 0), ((True,), ()), 0), ((0, 0), ((), ()), True), ((0, 0), ((), ()), False),
             ((0, False), ((), ()), 0), ((-1, 0), ((), ()), 0), ((0, 0), ((-1,), ()), 0), ((0, 0), ((), ()), -1),
             ((0, 0), ((), ())), ((0, 0), ((), ()), 0, ()), ((0, 0), ((), ()), None), ((0, 0), ((), None), 0),
-            ((0, 0), ("", ""), 0), ((0, 0), (2, 1), 0), (("0", "0"), ((), ()), 0), "0,0 -;- 0", STAND, (None, ((), ()), 0),
+            ((0, 0), ("", ""), 0), ((0, 0), (2, 1), 0), (("0", "0"), ((), ()), 0), "0,0 -;- 0", STAND,
+            (None, ((), ()), 0),
         ]:
             self.assertIs(is_lot(PLANT, thing), False, thing)
             self.assertIsNone(left_of(PLANT, STAND, thing), thing)
@@ -112,8 +114,10 @@ class May(unittest.TestCase):
     def cases(self):
         return [
             (WIDE, full_stand(WIDE, rest=rest)) for rest in (0, 4)
-        ] + [(WIDE, ((1,), ((3, 3, 2),), 0, (), 1, 2)), (SMALL, full_stand(SMALL, rest=3)), (DRIPS, full_stand(DRIPS, rest=1)),
-             (WIDE, ((0,), ((3,),), 0, ((("leaf", "a", 3), 1),), 1, 4)), (WIDE, ((1,), ((2, 1),), 0, ((("leaf", "a", 2), 1),), 1, 3)),
+        ] + [(WIDE, ((1,), ((3, 3, 2),), 0, (), 1, 2)), (SMALL, full_stand(SMALL, rest=3)),
+             (DRIPS, full_stand(DRIPS, rest=1)),
+             (WIDE, ((0,), ((3,),), 0, ((("leaf", "a", 3), 1),), 1, 4)),
+             (WIDE, ((1,), ((2, 1),), 0, ((("leaf", "a", 2), 1),), 1, 3)),
              (ASKED, full_stand(ASKED, rest=2)), (SLOW, full_stand(SLOW, rest=5)), (SMALL, full_stand(SMALL))]
 
     def test_against_going_through_all(self):
@@ -202,7 +206,8 @@ class May(unittest.TestCase):
         self.assertEqual(set(found), {True, False})
 
     def test_least_no_more(self):
-        for plant, stand in ((SMALL, full_stand(SMALL, rest=3)), (DRIPS, full_stand(DRIPS, rest=3)), (TINY, full_stand(TINY))):
+        for plant, stand in ((SMALL, full_stand(SMALL, rest=3)), (DRIPS, full_stand(DRIPS, rest=3)),
+                             (TINY, full_stand(TINY))):
             asked = 0
             for lot in all_lots(stand):
                 left = left_of(plant, stand, lot)
@@ -213,7 +218,8 @@ class May(unittest.TestCase):
             self.assertEqual(least_cuttings(plant, stand, most=asked), told)
             for most in (asked - 1, asked // 2, 1):
                 self.assertEqual(refusal(least_cuttings, plant, stand, most=most), ("NoMore", most))
-        self.assertEqual(refusal(least_cuttings, MILL, changed(full_stand(MILL), 1, ((3,), (3,), (3, 3, 2)))), ("NoMore", MOST))
+        self.assertEqual(refusal(least_cuttings, MILL, changed(full_stand(MILL), 1, ((3,), (3,), (3, 3, 2)))),
+                         ("NoMore", MOST))
         with self.assertRaises(TypeError):
             least_cuttings(SMALL, full_stand(SMALL), 2000)
 

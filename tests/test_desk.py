@@ -53,7 +53,8 @@ class Case(unittest.TestCase):
     def refused(self, desk, row, *told):
         """It is refused so; it was begun and ended; all it tells is as it was."""
         begun, ended = desk.counts()
-        ahead = [desk.say(look) for look in ("names", "ready", "stand mother", "came mother")] if told[0] != "first" else None
+        ahead = [desk.say(look) for look in ("names", "ready", "stand mother",
+                                             "came mother")] if told[0] != "first" else None
         told = told[1:] if told[0] == "first" else told
         with self.assertRaises(HandsError) as caught:
             desk.say(row)
@@ -74,7 +75,8 @@ class Case(unittest.TestCase):
 class Words(unittest.TestCase):
     def test_deeds(self):
         for deed, text in (
-            (("make", "a", 2), "make a 2"), (("copy", "pen", 10), "copy pen 10"), (("agree", "a", (1, 0, 0)), "agree a 1,0,0"),
+            (("make", "a", 2), "make a 2"), (("copy", "pen", 10), "copy pen 10"),
+            (("agree", "a", (1, 0, 0)), "agree a 1,0,0"),
             (("break", 0), "break 0"), (("break", 12), "break 12"),
         ):
             self.assertEqual(deed_text(deed), text)
@@ -91,17 +93,22 @@ class Words(unittest.TestCase):
             self.assertEqual(strike_read([str(part) for part in strike]), strike)
 
     def test_lots(self):
-        for lot in (((2, 0), ((2, 1), ()), 3), ((0,), ((),), 0), ((1, 2, 3), ((1,),), 12), ((0,), ((0,), (5, 5), ()), 999999999999)):
+        for lot in (((2, 0), ((2, 1), ()), 3), ((0,), ((),), 0), ((1, 2, 3), ((1,),), 12),
+                    ((0,), ((0,), (5, 5), ()), 999999999999)):
             self.assertEqual(lot_read(lot_text(lot).split(" ")), lot)
 
     def test_none(self):
-        for words in ([], [""], ["make"], ["make", "a"], ["make", "a", "2", "3"], ["make", "a", "2,1"], ["agree", "a", "1"],
-                      ["agree", "a", "0,1"], ["agree", "a", ""], ["break", "a", "0"], ["break", "x"], ["a", "make", "1"]):
+        for words in ([], [""], ["make"], ["make", "a"], ["make", "a", "2", "3"], ["make", "a", "2,1"],
+                      ["agree", "a", "1"],
+                      ["agree", "a", "0,1"], ["agree", "a", ""], ["break", "a", "0"], ["break", "x"],
+                      ["a", "make", "1"]):
             self.assertIsNone(deed_read(words), words)
-        for words in ([], [""], ["stuff", "1"], ["tool"], ["leaf", "a"], ["leaf", "a", "x"], ["making"], ["making", "a"],
+        for words in ([], [""], ["stuff", "1"], ["tool"], ["leaf", "a"], ["leaf", "a", "x"], ["making"],
+                      ["making", "a"],
                       ["making", "a", "0"], ["tool", "a", "0"], ["stuffs"], ["leaf", "a", "1", "2"]):
             self.assertIsNone(strike_read(words), words)
-        for words in ([], ["0", "-"], ["0", "-", "0", "0"], ["", "-", "0"], ["-", "-", "0"], ["0", "", "0"], ["0", "-", "-"],
+        for words in ([], ["0", "-"], ["0", "-", "0", "0"], ["", "-", "0"], ["-", "-", "0"], ["0", "", "0"],
+                      ["0", "-", "-"],
                       ["0", "1,2", "0"], ["0", "-;", "0"], ["0,", "-", "0"], ["0", "1;;1", "0"], ["0", "-,1", "0"]):
             self.assertIsNone(lot_read(words), words)
 
@@ -116,7 +123,8 @@ class Open(Case):
     def test_at_first(self):
         desk = Desk()
         rows = (
-            "names", "beat", "ready", "undo", "undo 1", "stand mother", "do mother make a 2", "strike mother stuff", "open", "",
+            "names", "beat", "ready", "undo", "undo 1", "stand mother", "do mother make a 2", "strike mother stuff",
+            "open", "",
             "may mother", "came mother", "ledger mother", "cut mother cup 0 3 0", "give mother cup 0 3 0", "x",
         )
         for row in rows:
@@ -135,7 +143,8 @@ class Open(Case):
     def test_of_no_form(self):
         text = stand_text(full_stand(SMALL))
         for row in (
-            "open", "open\n", "open\n" + text, "open " + text + "\n" + works_text(SMALL), " open\n" + text + "\n" + works_text(SMALL),
+            "open", "open\n", "open\n" + text, "open " + text + "\n" + works_text(SMALL),
+            " open\n" + text + "\n" + works_text(SMALL),
             "open \n" + text + "\n" + works_text(SMALL), "Open\n" + text + "\n" + works_text(SMALL), "\nopen\n" + text,
             "opens\n\n", "\n\n", "names\n\n", text + "\n" + works_text(SMALL),
         ):
@@ -157,7 +166,8 @@ class Open(Case):
         self.refused(Desk(), "open\n" + stand + "\n", "first", "NoText", 2, 0)
         for k in range(len(lines)):
             bad = lines[:k] + [lines[k] + " -"] + lines[k + 1:]
-            self.refused(Desk(), "open\n" + stand + "\n" + "\n".join(bad), "first", "NoText", k + 2, len(lines[k].split(" ")))
+            self.refused(Desk(), "open\n" + stand + "\n" + "\n".join(bad), "first", "NoText", k + 2,
+                         len(lines[k].split(" ")))
             self.refused(Desk(), "open\n" + stand + "\n" + "\n".join(lines[:k] + ["y"]), "first", "NoText", k + 2, 0)
             if k > 0:
                 self.refused(Desk(), "open\n" + stand + "\n" + "\n".join(lines[:k]), "first", "NoText", k + 2, 0)
@@ -176,8 +186,10 @@ class Open(Case):
 
     def test_stand_that_is_not_right(self):
         for text, word, at in (
-            ("9 2.2 0 - 1 0", "uses", 0), ("1,1 2.2 0 - 1 0", "uses", -1), ("1 2.3 0 - 1 0", "leaves", 0), ("1 2.2 1 - 1 0", "store", -1),
-            ("1 1.2 0 - 1 0", "leaves", 0), ("1 2.2 0 - 2 0", "phase", -1), ("1 2.2 0 - 0 0", "phase", -1), ("1 2.2 0 - 1 4", "rest", -1),
+            ("9 2.2 0 - 1 0", "uses", 0), ("1,1 2.2 0 - 1 0", "uses", -1), ("1 2.3 0 - 1 0", "leaves", 0),
+            ("1 2.2 1 - 1 0", "store", -1),
+            ("1 1.2 0 - 1 0", "leaves", 0), ("1 2.2 0 - 2 0", "phase", -1), ("1 2.2 0 - 0 0", "phase", -1),
+            ("1 2.2 0 - 1 4", "rest", -1),
             ("1 2.2 0 tool.b:1 1 0", "making", 0), ("1 2.2 0 tool.a:0 1 0", "making", 0),
             ("1 2.2 0 tool.a:1,leaf.a.1:1 1 0", "making", 1), ("1 2.2 0 tool.a:1,tool.a:1,tool.a:1 1 0", "benches", -1),
         ):
@@ -189,7 +201,8 @@ class Open(Case):
     def test_a_new_keeper(self):
         desk = desk_of(SMALL, None, "do mother copy a 2", "beat")
         self.assertEqual(desk.say(opened(WIDE)), "ok")
-        self.assertEqual((desk.say("names"), desk.say("came mother"), desk.say("stand mother")), ("mother", "-", "1 3.3.3.3 0 - 1 0"))
+        self.assertEqual((desk.say("names"), desk.say("came mother"), desk.say("stand mother")),
+                         ("mother", "-", "1 3.3.3.3 0 - 1 0"))
         # What is refused leaves the one that is there.
         desk.say("do mother copy a 3")
         for row in ("open\n1 2.1 0 - 1 0\n" + works_text(SMALL), "open\n\n", "open\nx\nx"):
@@ -202,8 +215,10 @@ class Rows(Case):
     def test_deeds(self):
         desk = desk_of(WIDE)
         for row, stand in (
-            ("do mother make a 3", "1 3.3.3.2 0 tool.a:1 1 0"), ("do mother copy a 3", "1 3.3.2.2 0 leaf.a.2:1,tool.a:1 1 0"),
-            ("do mother break 1", "1 3.3.2.2 0 leaf.a.2:1 1 0"), ("do mother agree a 3,2", "1 3.2 0 leaf.a.2:1,leaf.a.3:1 1 0"),
+            ("do mother make a 3", "1 3.3.3.2 0 tool.a:1 1 0"),
+            ("do mother copy a 3", "1 3.3.2.2 0 leaf.a.2:1,tool.a:1 1 0"),
+            ("do mother break 1", "1 3.3.2.2 0 leaf.a.2:1 1 0"),
+            ("do mother agree a 3,2", "1 3.2 0 leaf.a.2:1,leaf.a.3:1 1 0"),
         ):
             self.assertEqual(desk.say(row), "ok")
             self.assertEqual(desk.say("stand mother"), stand)
@@ -212,7 +227,8 @@ class Rows(Case):
         self.assertEqual(desk.say("undo 3"), "3")
 
     def test_beat_of_several(self):
-        desk = desk_of(WIDE, None, "cut mother cup 0 3 0", "do mother make a 3", "do mother copy a 3", "do cup make a 3")
+        desk = desk_of(WIDE, None, "cut mother cup 0 3 0", "do mother make a 3", "do mother copy a 3",
+                       "do cup make a 3")
         self.assertEqual(desk.say("beat"), "mother:leaf.a,tool.a cup:tool.a")
         self.assertEqual(desk.say("names"), "mother cup")
         self.assertEqual(desk.say("came mother"), "leaf.a,tool.a")
@@ -281,7 +297,8 @@ class Rows(Case):
         desk = desk_of(WIDE)
         for row, *told in (
             ("do cup make a 3", "NoHouse", "cup"), ("do mother make b 3", "NoDeed", ("make", "b", 3), "kind"),
-            ("do mother agree a 3,3,3", "NoDeed", ("agree", "a", (3, 3, 3)), "leaf"), ("do mother break 7", "NoDeed", ("break", 7), "making"),
+            ("do mother agree a 3,3,3", "NoDeed", ("agree", "a", (3, 3, 3)), "leaf"),
+            ("do mother break 7", "NoDeed", ("break", 7), "making"),
             ("strike cup stuff", "NoHouse", "cup"), ("strike mother stuff", "NoDeed", ("stuff",), "gone"),
             ("strike mother leaf b 1", "NoDeed", ("leaf", "b", 1), "kind"), ("cut cup pen 0 3 0", "NoHouse", "cup"),
             ("cut mother mother 0 3 0", "NoHouse", "mother"), ("give mother cup 0 3 0", "NoHouse", "cup"),
@@ -289,9 +306,11 @@ class Rows(Case):
             # Uses and groups of LIGHTS may differ in number, and be above all bounds: the KEEPER refuses them.
             ("cut mother cup 0,0 3 0", "NoDeed", ("cut", "mother", "cup", ((0, 0), ((3,),), 0)), "lot"),
             ("cut mother cup 0 3;- 0", "NoDeed", ("cut", "mother", "cup", ((0,), ((3,), ()), 0)), "lot"),
-            ("cut mother cup 999999999999 3 0", "NoDeed", ("cut", "mother", "cup", ((999999999999,), ((3,),), 0)), "lot"),
+            ("cut mother cup 999999999999 3 0", "NoDeed", ("cut", "mother", "cup", ((999999999999,), ((3,),), 0)),
+             "lot"),
             ("cut mother cup 0 - 0", "NoKeep", ("cut", "mother", "cup", ((0,), ((),), 0))),
-            ("stand cup", "NoHouse", "cup"), ("came cup", "NoHouse", "cup"), ("ledger cup", "NoHouse", "cup"), ("may cup", "NoHouse", "cup"),
+            ("stand cup", "NoHouse", "cup"), ("came cup", "NoHouse", "cup"), ("ledger cup", "NoHouse", "cup"),
+            ("may cup", "NoHouse", "cup"),
         ):
             self.refused(desk, row, *told)
         desk.say("do mother make a 3")
@@ -301,39 +320,55 @@ class Rows(Case):
         desk = desk_of(WIDE)
         rows = [
             "names", "ready", "beat", "undo", "undo 1", "stand mother", "came mother", "ledger mother", "may mother",
-            "do mother make a 3", "do mother copy a 3", "do mother agree a 3,3", "do mother break 0", "strike mother tool a",
+            "do mother make a 3", "do mother copy a 3", "do mother agree a 3,3", "do mother break 0",
+            "strike mother tool a",
             "strike mother leaf a 3", "strike mother making 0", "strike mother stuff", "cut mother cup 0 3 0",
             "give mother cup 0 3 0",
         ]
         for row in rows:
             # A blank more, ahead, at the end, within; a line end; a word more; a sign otherwise; an empty text.
-            self.no_line(desk, " " + row, row + " ", row + "\n", "\n" + row, row + " x", row + " -", row[:-1] + "\n" + row[-1],
-                         row.replace(" ", "\n", 1) if " " in row else row + "\n\n", row.capitalize(), row.upper(), row[1:], row + ".")
+            self.no_line(desk, " " + row, row + " ", row + "\n", "\n" + row, row + " x", row + " -",
+                         row[:-1] + "\n" + row[-1],
+                         row.replace(" ", "\n", 1) if " " in row else row + "\n\n", row.capitalize(), row.upper(),
+                         row[1:], row + ".")
             if " " in row:
                 self.no_line(desk, row.replace(" ", "  ", 1), row.replace(" ", "_", 1), row[:row.index(" ") + 1])
         self.no_line(
             desk, "", " ", "x", "open", "do", "do mother", "do mother make", "do mother make a", "do mother make a 3 3",
             # Figures: a 0 ahead, thirteen of them, none, a sign.
             "do mother make a 03", "do mother make a 00", "do mother make a 1000000000000", "do mother make a -1",
-            "do mother make a +1", "do mother make a x", "do mother make a 1_0", "do mother make a 3.", "do mother make a ",
+            "do mother make a +1", "do mother make a x", "do mother make a 1_0", "do mother make a 3.",
+            "do mother make a ",
             "undo 01", "undo 1000000000000", "undo -1", "undo x", "undo 1 1", "undo 1,1",
             # LIGHTS fall, two or more agree.
-            "do mother agree a 3", "do mother agree a 2,3", "do mother agree a 3,,3", "do mother agree a 3,3,", "do mother agree a 3.3",
-            "do mother agree a ,3", "do mother agree a -", "do mother agree a 03,3", "do mother agree a 3;3", "do mother make a 3,3",
+            "do mother agree a 3", "do mother agree a 2,3", "do mother agree a 3,,3", "do mother agree a 3,3,",
+            "do mother agree a 3.3",
+            "do mother agree a ,3", "do mother agree a -", "do mother agree a 03,3", "do mother agree a 3;3",
+            "do mother make a 3,3",
             # Names are WORDS.
-            "do Mother make a 3", "do mother make A 3", "do mothermother make a 3", "do m0ther make a 3", "do mother make abcdefghi 3",
-            "stand MOTHER", "stand abcdefghi", "stand mo-ther", "stand 1", "may", "came", "ledger", "stand", "names mother",
-            "ready mother", "beat mother", "cut mother Cup 0 3 0", "cut mother cup", "give mother Cup 0 3 0", "strike Mother stuff",
-            "strike mother", "strike mother leaf a", "strike mother leaf 3", "strike mother leaf a x", "strike mother making x",
-            "strike mother making 01", "strike mother making", "strike mother tool", "strike mother tool A", "strike mother stuff 1",
+            "do Mother make a 3", "do mother make A 3", "do mothermother make a 3", "do m0ther make a 3",
+            "do mother make abcdefghi 3",
+            "stand MOTHER", "stand abcdefghi", "stand mo-ther", "stand 1", "may", "came", "ledger", "stand",
+            "names mother",
+            "ready mother", "beat mother", "cut mother Cup 0 3 0", "cut mother cup", "give mother Cup 0 3 0",
+            "strike Mother stuff",
+            "strike mother", "strike mother leaf a", "strike mother leaf 3", "strike mother leaf a x",
+            "strike mother making x",
+            "strike mother making 01", "strike mother making", "strike mother tool", "strike mother tool A",
+            "strike mother stuff 1",
             "strike mother leaf a 3,3", "strike mother making a 0", "strike mother tool 0",
             # LOTS.
-            "cut mother cup 0 3", "cut mother cup 0 3 0 0", "cut mother cup - 3 0", "cut mother cup 0, 3 0", "cut mother cup ,0 3 0",
-            "cut mother cup 0 3, 0", "cut mother cup 0 3; 0", "cut mother cup 0 ;3 0", "cut mother cup 0 2,3 0", "cut mother cup 0 --  0",
-            "cut mother cup 0 -,3 0", "cut mother cup 0 3 -", "cut mother cup 00 3 0", "cut mother cup 0 03 0", "cut mother cup 0 3 00",
+            "cut mother cup 0 3", "cut mother cup 0 3 0 0", "cut mother cup - 3 0", "cut mother cup 0, 3 0",
+            "cut mother cup ,0 3 0",
+            "cut mother cup 0 3, 0", "cut mother cup 0 3; 0", "cut mother cup 0 ;3 0", "cut mother cup 0 2,3 0",
+            "cut mother cup 0 --  0",
+            "cut mother cup 0 -,3 0", "cut mother cup 0 3 -", "cut mother cup 00 3 0", "cut mother cup 0 03 0",
+            "cut mother cup 0 3 00",
             "cut mother cup 0 3 1000000000000", "cut mother cup 1000000000000 3 0", "cut mother cup 0 1000000000000 0",
-            "cut mother cup 0;0 3 0", "give mother cup 0 3.3 0", "give mother 0 3 0", "cut mother 0 3 0", "make a 3", "leaf a 3",
-            "do mother strike leaf a 3", "strike mother make a 3", "do mother stuff", "do mother beat", "keeper", "log", "counts",
+            "cut mother cup 0;0 3 0", "give mother cup 0 3.3 0", "give mother 0 3 0", "cut mother 0 3 0", "make a 3",
+            "leaf a 3",
+            "do mother strike leaf a 3", "strike mother make a 3", "do mother stuff", "do mother beat", "keeper",
+            "log", "counts",
             "back", "back 1", "ready\tx",
         )
 
@@ -391,7 +426,8 @@ class Told(Case):
     def test_counts(self):
         desk = Desk()
         self.assertEqual(desk.counts(), (0, 0))
-        rows = ["", "names", opened(WIDE), "names", "beat", "beat ", "do mother make b 1", "undo 9", "cut mother cup 0 - 0", "open\n\n",
+        rows = ["", "names", opened(WIDE), "names", "beat", "beat ", "do mother make b 1", "undo 9",
+                "cut mother cup 0 - 0", "open\n\n",
                 "stand cup", "cut mother cup 0 3 0", "undo"]
         for k, row in enumerate(rows):
             refusal(desk.say, row)
@@ -408,7 +444,8 @@ class Told(Case):
 
     def test_row_texts(self):
         keeper = Keeper(WIDE, full_stand(WIDE))
-        rows = (("cut", "mother", "cup", ((1,), ((3,),), 0)), ("do", "cup", ("make", "a", 3)), BEAT, ("strike", "mother", ("leaf", "a", 3)))
+        rows = (("cut", "mother", "cup", ((1,), ((3,),), 0)), ("do", "cup", ("make", "a", 3)), BEAT,
+                ("strike", "mother", ("leaf", "a", 3)))
         keeper.do_all(rows)
         desk = desk_of(WIDE, None, *[row_text(row) for row in rows])
         self.looks(desk, keeper)

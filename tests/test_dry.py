@@ -10,7 +10,6 @@ from handsmade.errors import NoPaper
 from handsmade.kept import kept_within
 from handsmade.stands import full_stand
 from samples import ASKED, BIG, DRIPS, FALLING, MILL, MIXED, NEEDY, ODD, PAIR, PLANT, SLOW, SMALL, TINY, TWINS, changed
-from samples import refusal
 
 # Making takes a leaf's light and brings one use; three have to agree, who are as bright as 1 then.
 DRY = ((("a", (), 0, 1, 1, 0),), ((), 0, 1), (3, 0, 1), (1, 3, 1, 0), (0, 1), (1, 1), 1)
@@ -72,8 +71,10 @@ class Checked(unittest.TestCase):
     def test_shape(self):
         for thing in ODD + [
             (0, (1,), (1,), 0), (0, (1,)), [0, (1,), (1,)], (0, [1], (1,)), (0, (1,), [1]), (True, (1,), (1,)),
-            (False, (1,), (1,)), (0, (True,), (1,)), (0, (1,), (True,)), (-1, (1,), (1,)), (0, (-1,), (1,)), (0, (1,), (-1,)),
-            (None, (1,), (1,)), (0, (), ()), (0, (1, 1), (1,)), (0, (1,), (1, 1)), (0, (1,), ()), (0, 1, 1), (0, (None,), (1,)),
+            (False, (1,), (1,)), (0, (True,), (1,)), (0, (1,), (True,)), (-1, (1,), (1,)), (0, (-1,), (1,)),
+            (0, (1,), (-1,)),
+            (None, (1,), (1,)), (0, (), ()), (0, (1, 1), (1,)), (0, (1,), (1, 1)), (0, (1,), ()), (0, 1, 1),
+            (0, (None,), (1,)),
             (0, (1,), ("1",)), ((0,), (1,), (1,)), (0, ((1,),), (1,)), (-BIG, (1,), (1,)), (0, None, (1,)),
         ]:
             self.refused(thing, "shape", -1)
@@ -158,7 +159,8 @@ class Found(unittest.TestCase):
             for asks in ((), (("a", 1),), (("a", 2),)) for takes, back in ((0, 0), (2, 1)) for gives in (1, 2, 4)
             for spring in ((0, 1), (1, 1), (1, 4))
         ] + [changed(plant, 2, (many, takes, 1)) for plant in (DRY, DRY_TWO) for many in (2, 3) for takes in (0, 1, 2)]
-        cases += [DRY, DRY_TWO, TINY, SMALL, FALLING, PAIR, PLANT, changed(DRY_TWO, 4, (2, 2)), changed(DRY, 3, (1, 3, 2, 0))]
+        cases += [DRY, DRY_TWO, TINY, SMALL, FALLING, PAIR, PLANT, changed(DRY_TWO, 4, (2, 2)),
+                  changed(DRY, 3, (1, 3, 2, 0))]
         found = {True: 0, False: 0}
         for plant in cases:
             for highest in range(7 if len(plant[0]) == 1 else 3):
@@ -179,8 +181,8 @@ class Found(unittest.TestCase):
         self.assertIsNone(dry_paper(plant, highest=0))
         self.assertEqual(dry_paper(works=plant, highest=1)[0], 1)
         for highest in range(1, 7):
-            self.assertLessEqual(max(max(part) if part.__class__ is tuple else part for part in dry_paper(plant, highest=highest)),
-                                 highest)
+            stuff, uses, glow = dry_paper(plant, highest=highest)
+            self.assertLessEqual(max((stuff,) + uses + glow), highest)
         with self.assertRaises(TypeError):
             dry_paper(DRY, 3)
 

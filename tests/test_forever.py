@@ -167,7 +167,7 @@ class Forever(unittest.TestCase):
             keeper.back(times=len(keeper.log()) - 1)
 
     def test_whoever_strikes(self):
-        """The FOE strikes whenever he can, at whatever is best for him: none of the leaves of the mother are ever lost."""
+        """The FOE strikes whenever he can, the brightest leaf there is, mostly: the mother never is without leaves."""
         for plant in (SMALL, ASKED, TAKING):
             heights = Heights(plant)
             keeper = Keeper(plant, full_stand(plant))
@@ -180,7 +180,6 @@ class Forever(unittest.TestCase):
                 height = heights.of(stand)[g]
                 strikes = strikes_at(plant, stand)
                 if strikes and keeper.is_open("mother"):
-                    # The brightest leaf there is, mostly.
                     keeper.strike("mother", strikes[-3] if len(strikes) > 2 and step % 3 else strikes[0])
                 options = [
                     turn for turn in turns_of(plant, keeper.stand_of("mother"))

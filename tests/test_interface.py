@@ -45,7 +45,8 @@ INTERFACE = {
     "fatechecker": {"lets_fate": "(lights, word, thing, *, many, bright)"},
     "turns": {"turns_of": "(works, stand)", "turn_led": "(works, stand, turn)"},
     "webs": {
-        "next_of": "(works, stand)", "quiet_web": "(works, stand, *, most=2000)", "whole_web": "(works, stand, *, most=2000)",
+        "next_of": "(works, stand)", "quiet_web": "(works, stand, *, most=2000)",
+        "whole_web": "(works, stand, *, most=2000)",
     },
     "comes": {
         "beats_to": "(works, stand, good, *, most=2000)", "quiet_row": "(works, stand, good, *, most=2000)",
@@ -78,11 +79,14 @@ INTERFACE = {
 
 METHODS = {
     ("keeper", "Keeper"): {
-        "do": "(self, name, deed)", "beat": "(self)", "strike": "(self, name, strike)", "cut": "(self, name, fresh, lot)",
-        "give": "(self, name, other, lot)", "works_now": "(self)", "names": "(self)", "__len__": "(self)", "has": "(self, thing)",
+        "do": "(self, name, deed)", "beat": "(self)", "strike": "(self, name, strike)",
+        "cut": "(self, name, fresh, lot)",
+        "give": "(self, name, other, lot)", "works_now": "(self)", "names": "(self)", "__len__": "(self)",
+        "has": "(self, thing)",
         "stand_of": "(self, name)", "is_open": "(self, name)", "came": "(self, name)", "rows_of": "(self, name)",
         "ledger": "(self, name)", "may": "(self, name)", "may_beat": "(self)", "log": "(self)", "__str__": "(self)",
-        "__eq__": "(self, other)", "back": "(self, *, times=1)", "do_all": "(self, rows, *, keep=False)", "counts": "(self)",
+        "__eq__": "(self, other)", "back": "(self, *, times=1)", "do_all": "(self, rows, *, keep=False)",
+        "counts": "(self)",
     },
     ("desk", "Desk"): {"say": "(self, row)", "counts": "(self)"},
 }

@@ -79,7 +79,8 @@ class Do(Case):
     def test_barred(self):
         keeper = Keeper(ASKED, full_stand(ASKED))
         for deed, why in (
-            (("make", "b", 3), "kind"), (("agree", "no", (3, 3)), "kind"), (("break", 0), "making"), (("make", "a", 2), "leaf"),
+            (("make", "b", 3), "kind"), (("agree", "no", (3, 3)), "kind"), (("break", 0), "making"),
+            (("make", "a", 2), "leaf"),
             (("copy", "a", 0), "leaf"), (("agree", "a", (3, 3, 3)), "leaf"), (("agree", "a", (3, 2)), "leaf"),
         ):
             error = self.refused(keeper, "do", ("mother", deed), NoDeed, deed, why)
@@ -153,8 +154,8 @@ class Beat(Case):
         self.assertEqual(keeper.came("cup"), ((("leaf", "a"),),))
 
     def test_not_kept(self):
-        # Struck, it has to do something ahead of the beat behind the next one: a copy of the one leaf, and that by which
-        # both dark ones agree.
+        # Struck, it has to do something ahead of the beat behind the next one: copy the one leaf, and lay both dark ones
+        # together.
         keeper = Keeper(SMALL, ((1,), ((1, 1, 0),), 0, (), 1, 0))
         keeper.strike("mother", ("leaf", "a", 1))
         self.assertIs(keeper.may_beat(), True)

@@ -150,7 +150,8 @@ class Ledgers(unittest.TestCase):
     def test_of_makings_at_first_and_struck(self):
         # A bright leaf's making took what AGREEING takes, another one's what COPYING does, whatever it came of.
         for makings, took in (
-            (((("leaf", "a", 1), 1), (("leaf", "a", 3), 2)), (1, 3)), (((("leaf", "a", 3), 1), (("tool", "a"), 1)), (3, 2)),
+            (((("leaf", "a", 1), 1), (("leaf", "a", 3), 2)), (1, 3)),
+            (((("leaf", "a", 3), 1), (("tool", "a"), 1)), (3, 2)),
             (((("leaf", "a", 0), 1), (("leaf", "a", 2), 1)), (1, 1)),
         ):
             keeper = Keeper(TAKING, ((0,), ((3, 3),), 4, makings, 1, 0))
@@ -205,7 +206,8 @@ class Same(unittest.TestCase):
         self.assertEqual(opened.stand_of("mother"), struck.stand_of("mother"))
         for one, other in (
             (keeper, struck), (struck, opened), (keeper, closed), (keeper, Keeper(WIDE, full_stand(WIDE, rest=1))),
-            (keeper, Keeper(changed(WIDE, 6, 3), full_stand(WIDE))), (keeper, Keeper(changed(WIDE, 5, (2, 4)), full_stand(WIDE))),
+            (keeper, Keeper(changed(WIDE, 6, 3), full_stand(WIDE))),
+            (keeper, Keeper(changed(WIDE, 5, (2, 4)), full_stand(WIDE))),
         ):
             self.assertTrue(one != other and other != one)
             self.assertFalse(one == other or other == one)
@@ -310,7 +312,8 @@ class DoAll(unittest.TestCase):
 
     def test_refused_in_the_midst(self):
         for bad, told in (
-            (("do", "pen", ("copy", "a", 3)), ("NoHouse", "pen")), (("do", "cup", ("make", "b", 3)), ("NoDeed", ("make", "b", 3), "kind")),
+            (("do", "pen", ("copy", "a", 3)), ("NoHouse", "pen")),
+            (("do", "cup", ("make", "b", 3)), ("NoDeed", ("make", "b", 3), "kind")),
             (("strike", "cup", ("stuff",)), ("NoDeed", ("stuff",), "late")),
             (("cut", "mother", "cup", LOT), ("NoHouse", "cup")),
             (("give", "mother", "mother", LOT), ("NoDeed", ("give", "mother", "mother", LOT), "self")),

@@ -62,7 +62,8 @@ class Walks(unittest.TestCase):
     def test_of_one_kind(self):
         seen = {}
         for plant, seed, many in (
-            (SMALL, 1, 150), (SMALL, 2, 150), (WIDE, 3, 250), (WIDE, 4, 250), (WIDE, 11, 250), (ASKED, 5, 250), (DRIPS, 6, 250),
+            (SMALL, 1, 150), (SMALL, 2, 150), (WIDE, 3, 250), (WIDE, 4, 250), (WIDE, 11, 250), (ASKED, 5, 250),
+            (DRIPS, 6, 250),
             (DRIPS, 7, 150), (SLOW, 8, 250), (NEEDY, 9, 250), (STUFF, 12, 150), (TAKING, 14, 200),
         ):
             for word, many_times in self.walk(plant, seed, many).items():

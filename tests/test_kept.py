@@ -12,7 +12,7 @@ from handsmade.stands import full_stand, void_stand
 from handsmade.strikes import strikes_at, struck
 from handsmade.turns import turn_led, turns_of
 from handsmade.webs import next_of, whole_web
-from plain import all_stands
+from plain import all_stands, some_stands
 from samples import ASKED, DRIPS, FALLING, MILL, NEEDY, PAIR, SLOW, SMALL, TINY, TWINS, changed, good_list, refusal
 from webplain import pairs_from, rounds_from, safe_from, ways_from, web_from
 
@@ -21,15 +21,10 @@ LEAF = ("leaf", "a")
 TOOL = ("tool", "a")
 
 
-def some(plant, many):
-    stands = all_stands(plant)
-    return stands[::max(1, len(stands) // many)] + [full_stand(plant), void_stand(plant)]
-
-
 class Rounds(unittest.TestCase):
     def test_against_the_plainest_way(self):
         for plant in LITTLE + (PAIR,):
-            stands = [full_stand(plant)] if plant == PAIR else some(plant, 4)
+            stands = [full_stand(plant)] if plant == PAIR else some_stands(plant, 4)
             for stand in stands:
                 heights, rounds = rounds_from(plant, stand)
                 self.assertEqual(kept_within(plant, stand), tuple(sorted(heights.items())), stand)
@@ -62,7 +57,8 @@ class Rounds(unittest.TestCase):
         for plant in LITTLE:
             stand = full_stand(plant)
             kept, fallen = kept_within(plant, stand), fallen_within(plant, stand)
-            self.assertEqual(sorted([one for one, _ in kept] + [one for one, _ in fallen]), list(whole_web(plant, stand)))
+            self.assertEqual(sorted([one for one, _ in kept] + [one for one, _ in fallen]),
+                             list(whole_web(plant, stand)))
             for rows in (kept, fallen):
                 self.assertIs(rows.__class__, tuple)
                 self.assertEqual(rows, tuple(sorted(set(rows))))
@@ -157,7 +153,7 @@ class Safe(unittest.TestCase):
     def test_against_the_plainest_way(self):
         told = {True: 0, False: 0}
         for plant in (SMALL, ASKED, DRIPS, SLOW):
-            for stand in some(plant, 12):
+            for stand in some_stands(plant, 12):
                 safe = is_safe(plant, stand)
                 self.assertIs(safe, safe_from(plant, stand), stand)
                 self.assertIs(safe, any(is_kept(plant, there) for there in next_of(plant, stand)))
@@ -174,8 +170,8 @@ class Safe(unittest.TestCase):
                     self.assertTrue(known.is_safe(struck(plant, stand, strike)), (stand, strike))
 
     def test_amid_a_beat(self):
-        # Struck, two leaves are left: the brighter has to be copied. Whoever reads it for a tool, or lays both together,
-        # or copies it and breaks the copy, has lost; all that is amid a beat.
+        # Struck, two leaves are left: the brighter has to be copied. Whoever reads it for a tool, lays both together, or
+        # copies it and breaks the copy has lost; all that is amid a beat.
         stand = struck(SMALL, ((1,), ((1, 1, 0),), 0, (), 1, 0), ("leaf", "a", 1))
         copied = done(SMALL, stand, ("copy", "a", 1))
         for there, safe in (
@@ -205,7 +201,7 @@ class Safe(unittest.TestCase):
     def test_more_never_harms(self):
         for plant in (SMALL, DRIPS):
             known = Known(plant, MOST)
-            stands = some(plant, 150)
+            stands = some_stands(plant, 150)
             for stand in stands[::2]:
                 for other in stands:
                     if known.is_safe(stand) and is_no_less(other, stand):
@@ -232,7 +228,7 @@ class KnownOnes(unittest.TestCase):
     def test_what_is_known_is_the_same(self):
         """What one WEB told holds for others: in whatever order STANDS are asked about, all is told as by itself."""
         for plant in (SMALL, ASKED, NEEDY):
-            stands = some(plant, 60)
+            stands = some_stands(plant, 60)
             for row in (stands, stands[::-1], stands[::2] + stands[1::2]):
                 for counts_all in (True, False):
                     known = Known(plant, MOST, counts_all=counts_all)
@@ -252,7 +248,7 @@ class KnownOnes(unittest.TestCase):
 
     def test_counted_ones(self):
         for plant in (SMALL, DRIPS):
-            stands = some(plant, 40)
+            stands = some_stands(plant, 40)
             sizes = {stand: len(web_from(plant, stand)) for stand in stands}
             for most in (20, 60, 100):
                 known = Known(plant, most)

@@ -86,8 +86,10 @@ class Shapes(Case):
             ("kept",), ("lost",), ("kept", None), ("lost", None), ("kept", []), ("lost", [lost]), ["kept", KEPT_ROWS],
             ("kept", KEPT_ROWS, ()), ("Kept", KEPT_ROWS), (None, KEPT_ROWS), (("kept",), KEPT_ROWS), (True, ()),
             ("kept", (row, row[0])), ("kept", (list(row),)), ("kept", (row, None)), ("kept", (row[:1],)),
-            ("kept", (row + (0,),)), ("kept", row), ("kept", LOST_ROWS), ("lost", KEPT_ROWS), ("lost", (lost, lost[:3])),
-            ("lost", (lost + (None,),)), ("lost", (list(lost),)), ("lost", (lost, None)), ("lost", lost), ("kept", "ab"),
+            ("kept", (row + (0,),)), ("kept", row), ("kept", LOST_ROWS), ("lost", KEPT_ROWS),
+            ("lost", (lost, lost[:3])),
+            ("lost", (lost + (None,),)), ("lost", (list(lost),)), ("lost", (lost, None)), ("lost", lost),
+            ("kept", "ab"),
             ("lost", "abcd"), ("row", ()), ("barren", (LONE,)), ("kept", True), ("lost", 0),
         ]:
             self.refused(thing, "shape", -1, at(2, 2))
@@ -114,7 +116,8 @@ class Kept(Case):
         self.let("kept", ("kept", KEPT_ROWS[2:] + KEPT_ROWS[:2]), at(2, 1))
 
     def test_asked(self):
-        for stand in (at(2), at(1, 1), at(3), at(1, 0, rest=1), at(0, 0, rest=1), at(1, rest=3), void_stand(HAND, rest=3)):
+        for stand in (at(2), at(1, 1), at(3), at(1, 0, rest=1), at(0, 0, rest=1), at(1, rest=3),
+                      void_stand(HAND, rest=3)):
             self.refused(KEPT, "asked", -1, stand)
         self.refused(("kept", ()), "asked", -1, at(2, 2))
 
@@ -159,9 +162,11 @@ class Kept(Case):
         for turn in [
             (thing,) for thing in ODD
         ] + [
-            (copied(3),), (copied(1), copied(1)), (copied(2), ("beat",)), (("beat",),), (("copy", "a", True),), (["copy", "a", 2],),
+            (copied(3),), (copied(1), copied(1)), (copied(2), ("beat",)), (("beat",),), (("copy", "a", True),),
+            (["copy", "a", 2],),
             (copied(2), ("break", 0)), (("break", 0),), (("break", False),), (copied(2), copied(2), copied(2)),
-            (("copy", "b", 2),), (("strike", ("leaf", "a", 2)),), (laid(2, 1, 0),), (laid(1, 2),), (("agree", "a", (2, True)),),
+            (("copy", "b", 2),), (("strike", ("leaf", "a", 2)),), (laid(2, 1, 0),), (laid(1, 2),),
+            (("agree", "a", (2, True)),),
             (copied(2), made(1), made(0)), (copied(-2),), (copied(BIG),),
         ]:
             self.refused(put(KEPT, (1, 1, 1, 0, 1, 0), turn), "turn", (1, 0, 0), at(2, 2))
@@ -265,7 +270,8 @@ class Lost(Case):
             self.refused(("lost", ((LONE, n, None, True),) + LOST_ROWS), "number", 0, LONE)
 
     def test_good(self):
-        for good in ODD + [("leaf", "b"), ("tool", "A"), ["leaf", "a"], ("leaf", "a", 0), ("leaf",), ("a", "leaf"), None, True]:
+        for good in ODD + [("leaf", "b"), ("tool", "A"), ["leaf", "a"], ("leaf", "a", 0), ("leaf",), ("a", "leaf"),
+                           None, True]:
             self.refused(put(LOST, (1, 0, 2), good), "good", 0, LONE)
             self.refused(put(LOST, (1, 1, 2), good), "good", 1, LONE)
             self.refused(("lost", ((LONE, 0, good, True),) + LOST_ROWS), "good", 0, LONE)
@@ -273,7 +279,8 @@ class Lost(Case):
     def test_way(self):
         for way in [thing for thing in ODD if thing is not None] + [
             ("leaf", "a", 2), ("leaf", "a", 0), ("stuff",), ("making", 0), ("leaf", "b", 3), ("leaf", "a", "3"),
-            ["leaf", "a", 3], ("leaf", "a"), ("leaf", "a", 3, 0), ("strike", ("leaf", "a", 3)), "stuff", ("making", False),
+            ["leaf", "a", 3], ("leaf", "a"), ("leaf", "a", 3, 0), ("strike", ("leaf", "a", 3)), "stuff",
+            ("making", False),
         ]:
             self.refused(put(LOST, (1, 0, 3), way), "way", 0, LONE)
         # Where rest isn't 0 there is but None.

@@ -11,22 +11,17 @@ from handsmade.order import is_no_less
 from handsmade.stands import full_stand, void_stand
 from handsmade.webs import whole_web
 from papers import changes, keep_told
-from plain import all_stands
+from plain import some_stands
 from samples import ASKED, DRIPS, FALLING, MILL, NEEDY, PAIR, SLOW, SMALL, TINY, TWINS, refusal
 
 LITTLE = (TINY, SMALL, ASKED, DRIPS, SLOW, NEEDY, FALLING)
-
-
-def some(plant, many):
-    stands = all_stands(plant)
-    return stands[::max(1, len(stands) // many)] + [full_stand(plant), void_stand(plant)]
 
 
 class Papers(unittest.TestCase):
     def test_told_is_let_by(self):
         told = {"kept": 0, "lost": 0}
         for plant in LITTLE:
-            for stand in some(plant, 12):
+            for stand in some_stands(plant, 12):
                 paper = kept_paper(plant, stand)
                 self.assertEqual(paper[0], "kept" if is_kept(plant, stand) else "lost")
                 self.assertEqual(lets_kept(plant, stand, paper), paper[0], stand)
@@ -69,7 +64,7 @@ class Papers(unittest.TestCase):
         """[58]: the rows of two papers of one word, put together, are one of both their STANDS."""
         for plant in (SMALL, ASKED, DRIPS):
             papers = {"kept": [], "lost": []}
-            for stand in some(plant, 14):
+            for stand in some_stands(plant, 14):
                 paper = kept_paper(plant, stand)
                 papers[paper[0]].append((stand, paper[1]))
             for word, told in papers.items():
@@ -83,7 +78,7 @@ class Papers(unittest.TestCase):
     def test_of_others(self):
         """[58], (M4): a paper tells of what is NO LESS, or NO MORE; it never is let by of what it isn't so of."""
         for plant in (SMALL, NEEDY):
-            stands = some(plant, 60)
+            stands = some_stands(plant, 60)
             kept = {stand: is_kept(plant, stand) for stand in stands}
             for stand in stands[::7]:
                 paper = kept_paper(plant, stand)

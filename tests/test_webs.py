@@ -8,19 +8,13 @@ from handsmade.stands import full_stand, void_stand
 from handsmade.strikes import strikes_at, struck, struck_so, ways_of
 from handsmade.turns import turn_led, turns_of
 from handsmade.webs import next_of, quiet_web, whole_web
-from plain import all_stands
+from plain import some_stands
 from samples import ASKED, DRIPS, MILL, NEEDY, PAIR, PLANT, SLOW, SMALL, TINY, TWINS, changed, refusal
 from webplain import pairs_from, web_from
 
 LITTLE = (TINY, SMALL, ASKED, DRIPS, SLOW, NEEDY)
 CUP = (("tool", "cup"), 2)
 PEN = (("tool", "pen"), 1)
-
-
-def some(plant, step):
-    """Some RIGHT STANDS of a little works, with makings and all."""
-    stands = all_stands(plant)
-    return stands[::max(1, len(stands) // step)] + [full_stand(plant), void_stand(plant)]
 
 
 class Next(unittest.TestCase):
@@ -40,7 +34,7 @@ class Next(unittest.TestCase):
         self.assertEqual(len(told), 3)
 
     def test_against_all_turns(self):
-        cases = [(plant, stand) for plant in LITTLE for stand in some(plant, 40)]
+        cases = [(plant, stand) for plant in LITTLE for stand in some_stands(plant, 40)]
         cases += [(PLANT, full_stand(PLANT)), (MILL, full_stand(MILL)), (TWINS, full_stand(TWINS, rest=2))]
         for plant, stand in cases:
             led = {turn_led(plant, stand, turn)[0] for turn in turns_of(plant, stand)}
@@ -50,7 +44,7 @@ class Next(unittest.TestCase):
 
     def test_against_the_plainest_way(self):
         for plant in LITTLE:
-            for stand in some(plant, 40):
+            for stand in some_stands(plant, 40):
                 self.assertEqual(next_of(plant, stand), tuple(sorted({there for there, _ in pairs_from(plant, stand)})))
 
 
@@ -58,13 +52,15 @@ class Webs(unittest.TestCase):
     def test_by_hand(self):
         void = void_stand(TINY, rest=1)
         self.assertEqual(quiet_web(TINY, void), (
-            ((0,), ((),), 0, (), 1, 0), ((0,), ((),), 0, (), 2, 1), ((0,), ((),), 1, (), 1, 0), ((0,), ((),), 1, (), 2, 0),
+            ((0,), ((),), 0, (), 1, 0), ((0,), ((),), 0, (), 2, 1), ((0,), ((),), 1, (), 1, 0),
+            ((0,), ((),), 1, (), 2, 0),
             ((0,), ((),), 2, (), 1, 0), ((0,), ((),), 2, (), 2, 0),
         ))
 
     def test_a_strike_at_the_stuff(self):
         # By strikes the store comes down again; a strike leaves a rest of 1, which the beat behind it takes.
-        self.assertEqual(quiet_web(TINY, ((0,), ((),), 2, (), 1, 0)), (((0,), ((),), 2, (), 1, 0), ((0,), ((),), 2, (), 2, 0)))
+        self.assertEqual(quiet_web(TINY, ((0,), ((),), 2, (), 1, 0)),
+                         (((0,), ((),), 2, (), 1, 0), ((0,), ((),), 2, (), 2, 0)))
         self.assertEqual(whole_web(TINY, ((0,), ((),), 2, (), 1, 0)), (
             ((0,), ((),), 0, (), 1, 0), ((0,), ((),), 1, (), 1, 0), ((0,), ((),), 1, (), 2, 0),
             ((0,), ((),), 2, (), 1, 0), ((0,), ((),), 2, (), 2, 0),
@@ -72,12 +68,13 @@ class Webs(unittest.TestCase):
 
     def test_against_the_plainest_way(self):
         for plant in LITTLE:
-            for stand in some(plant, 12):
+            for stand in some_stands(plant, 12):
                 self.assertEqual(quiet_web(plant, stand), tuple(sorted(web_from(plant, stand, True))), stand)
                 self.assertEqual(whole_web(plant, stand), tuple(sorted(web_from(plant, stand))), stand)
 
     def test_of_two_kinds(self):
-        for stand in (full_stand(PAIR), full_stand(PAIR, rest=2), ((0, 1), ((1,), (1, 0)), 0, ((("tool", "a"), 1),), 1, 1)):
+        for stand in (full_stand(PAIR), full_stand(PAIR, rest=2),
+                      ((0, 1), ((1,), (1, 0)), 0, ((("tool", "a"), 1),), 1, 1)):
             self.assertEqual(quiet_web(PAIR, stand), tuple(sorted(web_from(PAIR, stand, True))))
             self.assertEqual(whole_web(PAIR, stand), tuple(sorted(web_from(PAIR, stand))))
 
@@ -141,7 +138,7 @@ class More(unittest.TestCase):
     def test_more_never_harms(self):
         """[46]: from what is no less there is to each NEXT of the other one that is no less."""
         for plant in (SMALL, DRIPS):
-            stands = [stand for stand in some(plant, 400) if stand[4] == 1]
+            stands = [stand for stand in some_stands(plant, 400) if stand[4] == 1]
             for stand in stands[::9]:
                 nexts = next_of(plant, stand)
                 for other in stands[::3]:
