@@ -1,5 +1,6 @@
 """What is KEPT, told of many STANDS: what one WEB told is so for all its STANDS and isn't gone through again."""
 
+from handsmade.errors import NoMore
 from handsmade.leads import Leads
 from handsmade.rounds import Rounds
 from handsmade.webs import gone_through
@@ -30,11 +31,18 @@ class Known:
         return self._kept[stand]
 
     def is_safe(self, stand):
-        """Whether one of the NEXT of the STAND is KEPT; where the WEB of one asked has more than most it is refused."""
+        """Whether one of the NEXT of the STAND is KEPT; where none is and a WEB has more than most it is refused."""
         nexts = self._leads.nexts(stand)
         if any([self._kept.get(there, False) for there in nexts]):
             return True
+        all_told = True
         for there in nexts:
-            if self.is_kept(there):
-                return True
+            try:
+                if self.is_kept(there):
+                    return True
+            except NoMore:
+                # Another one of the NEXT may be KEPT still.
+                all_told = False
+        if not all_told:
+            raise NoMore(self._most)
         return False

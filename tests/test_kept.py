@@ -246,6 +246,24 @@ class KnownOnes(unittest.TestCase):
             self.assertEqual(refusal(known.is_kept, rested), ("NoMore", most) if counts_all else None)
         self.assertIs(known.is_kept(rested), True)
 
+    def test_one_next_is_enough(self):
+        """What is SAFE by a NEXT whose WEB has no more than most is told so, whatever the others have."""
+        seen = set()
+        for plant in (SMALL, DRIPS):
+            for stand in some_stands(plant, 60):
+                sizes = {there: len(web_from(plant, there)) for there in next_of(plant, stand)}
+                kept = [there for there in sizes if there in rounds_from(plant, there)[0]]
+                for most in {min(sizes.values()), max(sizes.values()), max(sizes.values()) - 1}:
+                    safe = any(sizes[there] <= most for there in kept)
+                    beyond = max(sizes.values()) > most
+                    known = Known(plant, most)
+                    told = refusal(known.is_safe, stand)
+                    self.assertEqual(told, ("NoMore", most) if beyond and not safe else None, stand)
+                    if told is None:
+                        self.assertIs(known.is_safe(stand), safe)
+                    seen.add((safe, beyond))
+        self.assertEqual(seen, {(True, True), (True, False), (False, True), (False, False)})
+
     def test_counted_ones(self):
         for plant in (SMALL, DRIPS):
             stands = some_stands(plant, 40)
